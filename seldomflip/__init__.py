@@ -1,0 +1,1 @@
+"""Answers about logs whose events come late, changed as seldom as possible."""

@@ -1,0 +1,1 @@
+"""Logs and their patterns."""

@@ -1,0 +1,118 @@
+"""The form of the package: its interface, and what can be read off its files."""
+
+import ast
+import inspect
+import unittest
+from pathlib import Path
+
+from seldomflip.base import logs, patterns
+
+PACKAGE = Path(__file__).resolve().parent.parent / "seldomflip"
+STAGE_1 = """is_letters(value), make_letters(*names), is_log(letters, value), sorted_logs(logs), occurs(log, other),
+first_places(log, other), last_places(log, other), first_above(log, other), growths(log, letters), shrinkings(log),
+minimal_of(logs), is_history(value), arrived(log, order), refined(history)"""
+STAGE_2 = """patterns(log, *, longest=None), number_of_patterns(log, *, longest=None), parting(log, other),
+alike(log, other), is_alike(log, other, k), left_numbers(log), right_numbers(log), is_allowed(log, k, value),
+after_steps(log, k, *steps), first_alike(log, k), alike_paper(log, other, k), is_alike_paper(log, other, k, value)"""
+NO_WORDS = ("type", "typing", "enum", "eval", "exec", "open", "input", "elements", "law", "register", "mro")
+
+
+def sources():
+    return [path for path in sorted(PACKAGE.rglob("*")) if path.is_file() and path.parent.name != "__pycache__"]
+
+
+def trees():
+    return [(path.name, ast.parse(path.read_text())) for path in sources()]
+
+
+class InterfaceTest(unittest.TestCase):
+
+    def check(self, module, text):
+        found = []
+        for name in [part.split("(")[0].split()[-1] for part in text.split(")")[:-1]]:
+            call = getattr(module, name)
+            self.assertEqual(call.__module__, module.__name__)
+            found.append(name + str(inspect.signature(call)))
+        self.assertEqual(", ".join(found), " ".join(text.split()))
+
+    def test_functions(self):
+        self.check(logs, STAGE_1)
+        self.check(patterns, STAGE_2)
+
+    def test_generators(self):
+        for call in (logs.growths, logs.shrinkings, logs.Growth.steps, patterns.patterns):
+            self.assertTrue(inspect.isgeneratorfunction(call))
+
+    def test_growth(self):
+        own = vars(logs.Growth)
+        self.assertEqual(str(inspect.signature(logs.Growth)), "(log, *insertions)")
+        self.assertEqual(str(inspect.signature(logs.Growth.between)), "(log, other)")
+        self.assertIsInstance(own["between"], classmethod)
+        for name in ("begin", "end", "kept"):
+            self.assertIsInstance(own[name], property)
+        for name in ("__call__", "__add__", "__len__", "__eq__", "__str__", "origin", "steps"):
+            self.assertIn(name, own)
+
+
+class FilesTest(unittest.TestCase):
+
+    def test_files(self):
+        for path in sources():
+            self.assertEqual(path.suffix, ".py")
+            text = path.read_text()
+            self.assertTrue(text.isascii())
+            self.assertNotIn("\t", text)
+            lines = text.splitlines()
+            self.assertLessEqual(len(lines), 399)
+            self.assertLessEqual(max(map(len, lines)), 120)
+        for folder in [PACKAGE] + [path for path in PACKAGE.iterdir() if path.is_dir() and path.name != "__pycache__"]:
+            self.assertTrue((folder / "__init__.py").is_file())
+
+    def test_functions_are_small(self):
+        for name, tree in trees():
+            for node in ast.walk(tree):
+                if isinstance(node, ast.FunctionDef):
+                    self.assertLessEqual(node.end_lineno - node.lineno + 1, 40, (name, node.name))
+
+    def test_imports(self):
+        for name, tree in trees():
+            for node in ast.walk(tree):
+                self.assertNotIsInstance(node, ast.Import, name)
+                if isinstance(node, ast.ImportFrom):
+                    self.assertIn(node, tree.body)
+                    self.assertEqual((node.level, node.module.split(".")[0]), (0, "seldomflip"))
+                    for alias in node.names:
+                        self.assertNotEqual(alias.name, "*")
+                        self.assertIsNone(alias.asname)
+
+    def test_imported_from_the_file_that_defines_it(self):
+        for _, tree in trees():
+            for node in tree.body:
+                if isinstance(node, ast.ImportFrom):
+                    path = PACKAGE.parent.joinpath(*node.module.split(".")).with_suffix(".py")
+                    own = [one for one in ast.parse(path.read_text()).body if not isinstance(one, ast.ImportFrom)]
+                    names = {getattr(one, "name", None) for one in own}
+                    names |= {one.targets[0].id for one in own if isinstance(one, ast.Assign)}
+                    for alias in node.names:
+                        self.assertIn(alias.name, names)
+
+    def test_no_unused_words(self):
+        for name, tree in trees():
+            for node in ast.walk(tree):
+                for word in (getattr(node, "id", None), getattr(node, "attr", None), getattr(node, "arg", None)):
+                    self.assertNotIn(word, NO_WORDS, name)
+                self.assertNotIsInstance(node, (ast.Try, ast.Global, ast.Set, ast.GeneratorExp, ast.Lambda), name)
+
+    def test_names_of_generators_are_used_once(self):
+        makers, others = [], []
+        for _, tree in trees():
+            for node in ast.walk(tree):
+                if isinstance(node, ast.FunctionDef):
+                    is_maker = any(isinstance(one, (ast.Yield, ast.YieldFrom)) for one in ast.walk(node))
+                    (makers if is_maker else others).append(node.name)
+        self.assertEqual(sorted(set(makers)), sorted(makers))
+        self.assertFalse(set(makers) & set(others))
+
+
+if __name__ == "__main__":
+    unittest.main()
