@@ -1,9 +1,11 @@
 """Plain searches to compare with, and values that are wrong somewhere."""
 
 import copy
+import random
 from itertools import combinations, permutations, product
 
 from seldomflip.base.logs import Growth
+from seldomflip.sets.logsets import Logs
 
 
 def in_order(logs):
@@ -95,3 +97,76 @@ def refused(case, error, call, *values, **named):
         case.assertIs(type(caught.exception), error, (values, named))
     case.assertEqual((values, named), before)
     return caught.exception
+
+
+def some_machines(seed, many, letters, most, labels=(True, False)):
+    """Machines, or judges, with any rows and labels."""
+    source = random.Random(seed)
+    found = []
+    for _ in range(many):
+        states = source.randint(1, most)
+        rows = tuple(tuple(source.randrange(states) for _ in letters) for _ in range(states))
+        found.append((tuple(letters), rows, tuple(source.choice(labels) for _ in range(states))))
+    return found
+
+
+def label(machine, log, state=0):
+    """The label of the state to which the log leads."""
+    letters, rows, labels = machine
+    for event in log:
+        state = rows[state][letters.index(event)]
+    return labels[state]
+
+
+def members(machine, most):
+    """The logs of the machine with at most so many events."""
+    return [log for log in all_logs(machine[0], most) if label(machine, log)]
+
+
+def subsets(log):
+    """The logs that occur in the log, the log itself among them."""
+    return patterns_of(log)
+
+
+def tail(states, back, good, letters=("a",)):
+    """A machine in which each event leads to the next state, and from the last one back."""
+    rows = tuple((min(state + 1, states - 1) if state < states - 1 else back,) * len(letters) for state in range(states))
+    return (letters, rows, tuple(state in good for state in range(states)))
+
+
+def round_of_states(letters, letter, many, good):
+    """A machine that counts one letter round and round, and leaves the other ones out."""
+    rows = tuple(tuple((state + 1) % many if one == letter else state for one in letters) for state in range(many))
+    return (letters, rows, tuple(state in good for state in range(many)))
+
+
+AB = ("a", "b")
+EVEN = (AB, ((1, 0), (0, 1)), (True, False))
+PLAIN = (AB, ((1, 2), (1, 2), (2, 2)), (True, True, False))
+SETS = (Logs(EVEN), Logs(PLAIN), Logs.nothing(("a",)))
+# no one of these is letters
+NO_LETTERS = OTHERS + NUMBERS + SETS + (
+    (), ("b", "a"), ("a", "a"), ("a", "b", "c", "d", "e"), ("A",), ("",), (LONG_NAME,), ("a", 1), ("a", None), ["a", "b"],
+    ("a", "b", "a"), (("a",),), ("a b",), deep("a", 9))
+WRONG_LOGS = NO_LOGS + SETS + (("c",), ("a", "c"), ("a", "b", "aa"), (SETS[0],))
+
+
+def machine_parts(labels):
+    """Values that are no machine, or no judge with these two labels, each wrong in one part."""
+    one, two = labels
+    rows = ((1, 0), (0, 1))
+    good = (one, two)
+    found = [(letters, rows, good) for letters in NO_LETTERS]
+    found += [(AB, value, good) for value in OTHERS + NUMBERS + SETS + ((), ("a", "b"), deep(0, 9), list(rows))]
+    found += [(AB, (row, (0, 1)), good) for row in OTHERS + NUMBERS + SETS + ((), (1,), (1, 0, 0), [1, 0], {1: 0})]
+    for state in OTHERS + SETS + (2, -1, 10 ** 59, -(10 ** 59), (0,), "0", True, False):
+        found += [(AB, ((1, state), (0, 1)), good), (AB, ((1, 0), (state, 1)), good)]
+    found += [(AB, rows, value) for value in OTHERS + NUMBERS + SETS + ((), (one,), (one, two, one), list(good), {0: one})]
+    found += [(AB, ((1, 1, 0), (0, 0, 1)), good), (("a",), rows, good), (AB, rows), (AB, rows, good, good), (), [AB, rows, good]]
+    found += [(AB, (), ()), (rows, AB, good), (AB, good, rows)]
+    return tuple(found) + OTHERS + NUMBERS + SETS + NO_LOGS
+
+
+NO_MACHINES = machine_parts((True, False)) + tuple(
+    (AB, ((1, 0), (0, 1)), (True, value)) for value in OTHERS[3:] + NUMBERS + SETS + (None, "True", (True,), 0, 1)) + (
+    tail(201, 200, (200,)), ("ab", ((0, 0),), (True,)), (AB, ((0, 0),), True))

@@ -5,6 +5,7 @@ import unittest
 from pathlib import Path
 
 from seldomflip.base import logs, patterns
+from seldomflip.sets import chains, closures, logsets, machines
 
 STAGE_1 = """
 >>> [first_places(("a", "b"), ("a", "b", "a", "b")), first_above(("a", "b"), ("b", "a")), list(shrinkings(("a", "a", "b"))), minimal_of((("a", "b"), ("b",)))]
@@ -23,6 +24,42 @@ STAGE_2 = """
 [(1, 1, 2, 2), (2, 2, 1, 1), False, ('a', 'b', 'a', 'b')]
 """
 
+STAGE_3 = """
+>>> EVEN = (("a", "b"), ((1, 0), (0, 1)), (True, False))
+>>> PLAIN = (("a", "b"), ((1, 2), (1, 2), (2, 2)), (True, True, False))
+>>> [alike_states(PLAIN), least(PLAIN), first_logs(PLAIN), parting_log(EVEN, PLAIN)]
+[((0, 1), (2,)), (('a', 'b'), ((0, 1), (1, 1)), (True, False)), ((), ('a',), ('b',)), ('a',)]
+>>> [merged(EVEN, PLAIN), is_comparison(PLAIN, least(PLAIN), ("same", ((0, 0), (1, 0), (2, 1))))]
+[(('a', 'b'), ((1, 2), (0, 2), (2, 2)), (True, False, False)), True]
+"""
+
+STAGE_4 = """
+>>> even = Logs((("a", "b"), ((1, 0), (0, 1)), (True, False)))
+>>> plain = Logs((("a", "b"), ((0, 1), (1, 1)), (True, False)))
+>>> [str(even & plain), even(("a",)).first(), (~plain).first(), (even - plain).count_of(4), even.is_within(~plain), list(even.listed(longest=2))]
+['logs over a, b: 3 states', ('a',), ('b',), 7, False, [(), ('b',), ('a', 'a'), ('b', 'b')]]
+>>> [even.index_of(("b", "b")), even.log_at(3), plain.log_at(2), even.count(), Logs.sized(("a", "b"), most=3).count()]
+[3, ('b', 'b'), ('a', 'a'), None, 15]
+"""
+
+STAGE_5 = """
+>>> some = Logs.listing(("a", "b"), ("a", "b"), ("b", "b"), ("b", "a", "b"))
+>>> [list(minimal(some).listed()), first_over(some, ("a",)), first_under(some, ("b", "b", "a")), inside_down(some).first()]
+[[('a', 'b'), ('b', 'b')], ('a', 'b'), ('b', 'b'), None]
+>>> one = above_of(("a",), (("a",),))
+>>> [closure_paper(one, up=False), is_closure_paper(one, ("closed", ((0, 1), (1, 1))))]
+[('open', ('a',), ()), True]
+"""
+
+STAGE_6 = """
+>>> two = ("a", "b")
+>>> chain = (("maybe", "a"), ("any", ("a", "b")), ("maybe", "c"))
+>>> [reduced(chain), full_log(chain, 2), rest_of(chain, ("c",)), first_outside((("any", two),), (("any", ("b",)),))]
+[(('any', ('a', 'b')), ('maybe', 'c')), ('a', 'a', 'b', 'a', 'b', 'c'), (), ('a',)]
+>>> [avoiding(two, (("a", "b"),)), bars(two, ((("any", ("b",)), ("any", ("a",))),)), len(chains_of(below_of(two, (("a", "b"), ("b", "a")))))]
+[((('any', ('b',)), ('any', ('a',))),), (('a', 'b'),), 2]
+"""
+
 
 class ExamplesTest(unittest.TestCase):
 
@@ -38,9 +75,21 @@ class ExamplesTest(unittest.TestCase):
     def test_stage_2(self):
         self.run_text(STAGE_2, vars(patterns), 4)
 
+    def test_stage_3(self):
+        self.run_text(STAGE_3, vars(machines), 4)
+
+    def test_stage_4(self):
+        self.run_text(STAGE_4, vars(logsets), 4)
+
+    def test_stage_5(self):
+        self.run_text(STAGE_5, vars(closures), 4)
+
+    def test_stage_6(self):
+        self.run_text(STAGE_6, {**vars(chains), **vars(closures)}, 4)
+
     def test_readme(self):
         text = (Path(__file__).resolve().parent.parent / "README.md").read_text()
-        self.run_text(text.replace("```", ""), {}, 12)
+        self.run_text(text.replace("```", ""), {}, 20)
 
 
 if __name__ == "__main__":

@@ -6,6 +6,7 @@ import unittest
 from pathlib import Path
 
 from seldomflip.base import logs, patterns
+from seldomflip.sets import chains, closures, logsets, machines
 
 PACKAGE = Path(__file__).resolve().parent.parent / "seldomflip"
 STAGE_1 = """is_letters(value), make_letters(*names), is_log(letters, value), sorted_logs(logs), occurs(log, other),
@@ -14,6 +15,19 @@ minimal_of(logs), is_history(value), arrived(log, order), refined(history)"""
 STAGE_2 = """patterns(log, *, longest=None), number_of_patterns(log, *, longest=None), parting(log, other),
 alike(log, other), is_alike(log, other, k), left_numbers(log), right_numbers(log), is_allowed(log, k, value),
 after_steps(log, k, *steps), first_alike(log, k), alike_paper(log, other, k), is_alike_paper(log, other, k, value)"""
+STAGE_3 = """is_machine(value), is_least(machine), least(machine), turned(machine), state_behind(machine, log, *, begin=0),
+contains(machine, log), first_logs(machine), alike_states(machine), parting_states(machine, state, other),
+merged(machine, other, *, both=True, first=False, second=False, neither=False), parting_log(machine, other),
+comparison(machine, other), is_comparison(machine, other, value)"""
+LOGS = """(machine), listing(letters, *logs), listing_of(letters, logs), everything(letters), nothing(letters),
+sized(letters, *, least=0, most=None), is_within(self, other), first(self), listed(self, *, longest=4), count(self),
+count_of(self, length), log_at(self, index), index_of(self, log)"""
+STAGE_5 = """above(logs), below(logs), above_of(letters, logs), below_of(letters, logs), is_closed_up(logs),
+is_closed_down(logs), inside_up(logs), inside_down(logs), minimal(logs), maximal(logs), first_over(logs, log),
+first_under(logs, log), closure_paper(logs, *, up=True), is_closure_paper(logs, value, *, up=True)"""
+STAGE_6 = """is_chain(letters, value), is_in_chain(chain, log), is_within(chain, other), first_outside(chain, other),
+reduced(chain), rest_of(chain, log), full_log(chain, times), list_logs(letters, chains), chains_of(logs),
+is_list_of(logs, value), avoiding(letters, logs), bars(letters, chains)"""
 NO_WORDS = ("type", "typing", "enum", "eval", "exec", "open", "input", "elements", "law", "register", "mro")
 
 
@@ -38,9 +52,15 @@ class InterfaceTest(unittest.TestCase):
     def test_functions(self):
         self.check(logs, STAGE_1)
         self.check(patterns, STAGE_2)
+        self.check(machines, STAGE_3)
+        self.check(closures, STAGE_5)
+        self.check(chains, STAGE_6)
+
+    def test_constants(self):
+        self.assertEqual([logs.MAX_EVENTS, machines.MAX_STATES, chains.MAX_ATOMS, chains.MAX_CHAINS], [200, 200, 400, 100])
 
     def test_generators(self):
-        for call in (logs.growths, logs.shrinkings, logs.Growth.steps, patterns.patterns):
+        for call in (logs.growths, logs.shrinkings, logs.Growth.steps, patterns.patterns, logsets.Logs.listed):
             self.assertTrue(inspect.isgeneratorfunction(call))
 
     def test_growth(self):
@@ -52,6 +72,23 @@ class InterfaceTest(unittest.TestCase):
             self.assertIsInstance(own[name], property)
         for name in ("__call__", "__add__", "__len__", "__eq__", "__str__", "origin", "steps"):
             self.assertIn(name, own)
+
+    def check_class(self, owner, text, class_methods, properties, operators):
+        own = vars(owner)
+        found = [str(inspect.signature(owner))]
+        for name in [part.split("(")[0].split()[-1] for part in text.split(")")[1:-1]]:
+            self.assertIn(name, own)
+            self.assertEqual(isinstance(own[name], classmethod), name in class_methods)
+            found.append(name + str(inspect.signature(getattr(owner, name))))
+        self.assertEqual(", ".join(found), " ".join(text.split()))
+        for name in properties.split():
+            self.assertIsInstance(own[name], property)
+        for name in operators.split():
+            self.assertIn(f"__{name}__", own)
+
+    def test_logs(self):
+        self.check_class(logsets.Logs, LOGS, ("listing", "listing_of", "everything", "nothing", "sized"), "letters machine",
+                         "or and sub xor invert contains bool len eq str call")
 
 
 class FilesTest(unittest.TestCase):

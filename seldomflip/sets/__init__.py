@@ -1,0 +1,1 @@
+"""Regular sets of logs: machines, sets, closures and chains."""
