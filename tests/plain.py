@@ -170,3 +170,27 @@ def machine_parts(labels):
 NO_MACHINES = machine_parts((True, False)) + tuple(
     (AB, ((1, 0), (0, 1)), (True, value)) for value in OTHERS[3:] + NUMBERS + SETS + (None, "True", (True,), 0, 1)) + (
     tail(201, 200, (200,)), ("ab", ((0, 0),), (True,)), (AB, ((0, 0),), True))
+
+
+VERDICTS = (None, "no", "yes", "x")
+LAST = (AB, ((1, 2), (1, 2), (1, 2)), (None, "x", "y"))
+ONCE = (AB, ((1, 0), (2, 1), (2, 2)), ("no", "yes", "no"))
+TURNS = (AB, ((1, 0), (1, 2), (2, 2)), ("no", "yes", "no"))
+THREE = (("a", "b", "c"), ((1, 2, 3), (4, 4, 4), (4, 4, 4), (4, 4, 4), (4, 4, 4)), (None, "p", "q", "r", None))
+FREE = (AB, ((0, 0),), (None,))
+OTHER_LETTERS = (("a", "c"), ((1, 0), (2, 1), (2, 2)), ("no", "yes", "no"))
+
+
+def tail_judge(verdicts, back):
+    """A judge of the log of a's: verdicts one behind another, and from the last state back to one of them."""
+    rows = tuple((state + 1 if state < len(verdicts) - 1 else back,) for state in range(len(verdicts)))
+    return (("a",), rows, tuple(verdicts))
+
+
+SIX = ("a", "b", "c", "d", "e", "f")
+NO_NAMES = OTHERS[:3] + OTHERS[7:] + NUMBERS + SETS + (
+    "", "A", "a b", "a1", LONG_NAME, "a\n", "\u00e9", (), ("no",), ["no"], {"no": 1}, deep("no", 9))
+NO_JUDGES = machine_parts(("yes", None)) + machine_parts(("no", "yes")) + tuple(
+    (AB, ((1, 0), (0, 1)), ("yes", value)) for value in NO_NAMES if value is not None) + (
+    tail_judge(("no",) * 41, 40), tail_judge(SIX, 0), tail_judge(SIX + (None,), 6), EVEN, PLAIN,
+    (("a",), ((0,),) * 6, SIX), (("a",), ((0,),), "no"))

@@ -3,17 +3,19 @@
 import random
 import unittest
 from itertools import product
+from unittest import mock
 
 import plain
 from plain import AB, EVEN, PLAIN, label
 from seldomflip.errors import InvalidLetters, InvalidLog, InvalidOperation, TooMany
+from seldomflip.sets import guessing
 from seldomflip.sets.closures import (
     above, above_of, below, below_of, closure_paper, first_over, first_under, inside_down, inside_up, is_closed_down,
     is_closed_up, is_closure_paper, maximal, minimal)
+from seldomflip.sets.extremes import Maximal, Minimal
 from seldomflip.sets.logsets import Logs
 from seldomflip.sets.machines import least
 from seldomflip.sets.settling import settled
-from seldomflip.sets.guessing import guessed
 from seldomflip.sets.masks import true_mask
 from seldomflip.sets.spreads import Falling, Live, Rising
 from seldomflip.sets.tables import least_table
@@ -365,7 +367,7 @@ class PapersTest(unittest.TestCase):
 
 
 class WaysAgreeTest(unittest.TestCase):
-    """The two ways to find a closure, of which the second one is taken for hard sets only."""
+    """The ways to find a closure, of which all but the first one are taken for hard sets only."""
 
     def check(self, rows, goods):
         falling = Falling(rows, [0])
@@ -374,15 +376,25 @@ class WaysAgreeTest(unittest.TestCase):
         for spread, begin in ((rising, rising.entry(0)), (live, falling.reach[falling.place[0]] & live.goods)):
             wanted = settled(begin, spread.width, spread.behind, lambda mask: mask & spread.goods != 0, 10 ** 9, None)
             self.assertEqual(least_table(*wanted, 0, 10 ** 9), wanted)
-            self.assertEqual(guessed(spread, begin, 10 ** 9), wanted)
+            found = settled(spread.filled(begin), spread.width, lambda mask, at: spread.filled(spread.behind(mask, at)),
+                            lambda mask: mask & spread.goods != 0, 10 ** 9, None)
+            self.assertEqual(found, wanted)
+            for many in (guessing.MANY_TESTS, 1, 5):
+                with mock.patch.object(guessing, "MANY_TESTS", many):
+                    self.assertEqual(guessing.guessed(spread, spread.filled(begin), 10 ** 9), wanted)
             self.assertIs(settled(begin, spread.width, spread.behind, None, 10 ** 9, 0), None)
+        for configs in (Minimal(rows, goods), Maximal(rows, goods)):
+            first, width = configs.first_config, configs.width
+            wanted = settled(first, width, configs.behind, configs.is_good, 10 ** 9, None)
+            self.assertEqual(least_table(*wanted, 0, 10 ** 9), wanted)
+            self.assertEqual(settled(first, width, configs.filled_behind, configs.is_good, 10 ** 9, None), wanted)
 
     def test_small_sets(self):
         for machine in SMALL + WIDE:
             _, rows, goods = least(machine)
             self.check(rows, goods)
 
-    def test_sets_with_many_tests(self):
+    def test_sets_without_loops(self):
         source = random.Random(28)
         for many in (18, 24, 30):
             for _ in range(4):
@@ -391,7 +403,7 @@ class WaysAgreeTest(unittest.TestCase):
                 self.check(*least_table(rows + ((many - 1,) * 3,), goods, 0, many))
 
     def test_hard_sets(self):
-        # with these there are more than 20000 different masks
+        # with these there are more than 20000 different masks that are not filled
         for many, seed, wanted in ((60, 38, 19), (200, 28, 17)):
             source = random.Random(seed)
             dead = many - 1

@@ -5,7 +5,9 @@ import unittest
 from pathlib import Path
 
 from seldomflip.base import logs, patterns
+from seldomflip.judges import histories, judges
 from seldomflip.sets import chains, closures, logsets, machines
+from seldomflip.towers import towers
 
 STAGE_1 = """
 >>> [first_places(("a", "b"), ("a", "b", "a", "b")), first_above(("a", "b"), ("b", "a")), list(shrinkings(("a", "a", "b"))), minimal_of((("a", "b"), ("b",)))]
@@ -60,6 +62,36 @@ STAGE_6 = """
 [((('any', ('b',)), ('any', ('a',))),), (('a', 'b'),), 2]
 """
 
+VALUES = """
+>>> LAST = (("a", "b"), ((1, 2), (1, 2), (1, 2)), (None, "x", "y"))
+>>> ONCE = (("a", "b"), ((1, 0), (2, 1), (2, 2)), ("no", "yes", "no"))
+>>> TURNS = (("a", "b"), ((1, 0), (1, 2), (2, 2)), ("no", "yes", "no"))
+>>> THREE = (("a", "b", "c"), ((1, 2, 3), (4, 4, 4), (4, 4, 4), (4, 4, 4), (4, 4, 4)), (None, "p", "q", "r", None))
+"""
+
+STAGE_7 = """
+>>> [verdict_of(ONCE, ("b", "a")), verdicts_of(ONCE), verdict_of(LAST, ()), verdict_of(behind(LAST, ("b",)), ())]
+['yes', ('no', 'yes'), None, 'y']
+>>> [parting_log(ONCE, mapped(ONCE, no=None)), judge_paper(ONCE, ONCE)[0], is_judge_paper(ONCE, LAST, ("unlike", ("a",)))]
+[(), 'same', True]
+"""
+
+STAGE_8 = """
+>>> past = ((), ("b",), ("a", "b"), ("a", "b", "b"), ("a", "a", "b", "b"))
+>>> [kept(ONCE, past, first="no"), flip_logs(ONCE, past, first="x"), fewest_flips(LAST, past), fewest_flips(LAST, past, first="x")]
+[('no', 'no', 'yes', 'yes', 'no'), (('a', 'b'), ('a', 'a', 'b', 'b')), 0, 1]
+>>> keeper = Keeper(ONCE, first="no")
+>>> [keeper.put(0, "a"), keeper.tell(("a", "b")), keeper(("a", "b", "a")), keeper.flips, keeper.back(2), bool(keeper)]
+['yes', 'yes', 'no', 1, 0, False]
+"""
+
+STAGE_9 = """
+>>> [heights(ONCE), heights(LAST), reach(ONCE, ("a",)), [len(step["yes"]) for step in rounds(ONCE)]]
+[{'no': 3, 'yes': 2}, {'x': None, 'y': None}, {'no': 1, 'yes': 2}, [3, 3, 1, 1]]
+>>> [highest_tower(ONCE, "yes"), tower_above(LAST, "x", 3), tower_above(ONCE, "yes", 1, start=("b", "b"))]
+[(('a',), ('a', 'a')), (('a',), ('a', 'b'), ('a', 'b', 'a')), (('a', 'b', 'b'),)]
+"""
+
 
 class ExamplesTest(unittest.TestCase):
 
@@ -87,9 +119,18 @@ class ExamplesTest(unittest.TestCase):
     def test_stage_6(self):
         self.run_text(STAGE_6, {**vars(chains), **vars(closures)}, 4)
 
+    def test_stage_7(self):
+        self.run_text(VALUES + STAGE_7, vars(judges), 6)
+
+    def test_stage_8(self):
+        self.run_text(VALUES + STAGE_8, vars(histories), 8)
+
+    def test_stage_9(self):
+        self.run_text(VALUES + STAGE_9, vars(towers), 6)
+
     def test_readme(self):
         text = (Path(__file__).resolve().parent.parent / "README.md").read_text()
-        self.run_text(text.replace("```", ""), {}, 20)
+        self.run_text(text.replace("```", ""), {}, 29)
 
 
 if __name__ == "__main__":

@@ -2,11 +2,14 @@
 
 import ast
 import inspect
+import re
 import unittest
 from pathlib import Path
 
 from seldomflip.base import logs, patterns
+from seldomflip.judges import histories, judges
 from seldomflip.sets import chains, closures, logsets, machines
+from seldomflip.towers import towers
 
 PACKAGE = Path(__file__).resolve().parent.parent / "seldomflip"
 STAGE_1 = """is_letters(value), make_letters(*names), is_log(letters, value), sorted_logs(logs), occurs(log, other),
@@ -28,6 +31,17 @@ first_under(logs, log), closure_paper(logs, *, up=True), is_closure_paper(logs, 
 STAGE_6 = """is_chain(letters, value), is_in_chain(chain, log), is_within(chain, other), first_outside(chain, other),
 reduced(chain), rest_of(chain, log), full_log(chain, times), list_logs(letters, chains), chains_of(logs),
 is_list_of(logs, value), avoiding(letters, logs), bars(letters, chains)"""
+STAGE_7 = """is_judge(value), make_judge(letters, **sets), make_judge_by(letters, sets), verdict_of(judge, log),
+verdicts_of(judge), logs_with(judge, verdict), least_judge(judge), is_total(judge), behind(judge, log),
+mapped(judge, **names), mapped_by(judge, names), filled(judge, name), freed(judge, logs), joined(judge, other),
+agreed(judge, other), parting_log(judge, other), judge_paper(judge, other), is_judge_paper(judge, other, value)"""
+STAGE_8 = """is_history_of(judge, value), are_right(judge, history, value), flips(answers),
+kept(judge, history, *, first), flip_logs(judge, history, *, first), fewest_flips(judge, history, *, first=None)"""
+KEEPER = """(judge, *, first), tell(self, log), put(self, place, letter), back(self, many=1), trial(self),
+during(self, logs, call), branch(self)"""
+STAGE_9 = """is_tower(judge, value), rounds(judge), round_of(judge, verdict, number), heights(judge),
+height(judge, verdict), reach(judge, log), tower_above(judge, verdict, number, *, start=()),
+highest_tower(judge, verdict), height_paper(judge, verdict), is_height_paper(judge, verdict, value)"""
 NO_WORDS = ("type", "typing", "enum", "eval", "exec", "open", "input", "elements", "law", "register", "mro")
 
 
@@ -43,7 +57,7 @@ class InterfaceTest(unittest.TestCase):
 
     def check(self, module, text):
         found = []
-        for name in [part.split("(")[0].split()[-1] for part in text.split(")")[:-1]]:
+        for name in re.findall(r"(\w+)\((?:[^()]|\(\))*\)", text):
             call = getattr(module, name)
             self.assertEqual(call.__module__, module.__name__)
             found.append(name + str(inspect.signature(call)))
@@ -55,12 +69,16 @@ class InterfaceTest(unittest.TestCase):
         self.check(machines, STAGE_3)
         self.check(closures, STAGE_5)
         self.check(chains, STAGE_6)
+        self.check(judges, STAGE_7)
+        self.check(histories, STAGE_8)
+        self.check(towers, STAGE_9)
 
     def test_constants(self):
         self.assertEqual([logs.MAX_EVENTS, machines.MAX_STATES, chains.MAX_ATOMS, chains.MAX_CHAINS], [200, 200, 400, 100])
+        self.assertEqual([judges.MAX_STATES, judges.MAX_VERDICTS, histories.MAX_HISTORY, towers.MAX_ROUNDS], [40, 5, 200, 200])
 
     def test_generators(self):
-        for call in (logs.growths, logs.shrinkings, logs.Growth.steps, patterns.patterns, logsets.Logs.listed):
+        for call in (logs.growths, logs.shrinkings, logs.Growth.steps, patterns.patterns, logsets.Logs.listed, towers.rounds):
             self.assertTrue(inspect.isgeneratorfunction(call))
 
     def test_growth(self):
@@ -89,6 +107,9 @@ class InterfaceTest(unittest.TestCase):
     def test_logs(self):
         self.check_class(logsets.Logs, LOGS, ("listing", "listing_of", "everything", "nothing", "sized"), "letters machine",
                          "or and sub xor invert contains bool len eq str call")
+
+    def test_keeper(self):
+        self.check_class(histories.Keeper, KEEPER, (), "judge log answer flips history answers", "len bool call contains eq str")
 
 
 class FilesTest(unittest.TestCase):

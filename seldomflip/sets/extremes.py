@@ -4,9 +4,9 @@ A config is a pair: the state behind a log, and the mask of the states behind th
 occur in it, or in which it occurs. None stands for no log at all.
 """
 
-from seldomflip.sets.masks import columns_before, image_of, true_mask, turned_masks
+from seldomflip.sets.masks import columns_before, image_of, true_mask
 from seldomflip.sets.settling import settled
-from seldomflip.sets.spreads import Falling
+from seldomflip.sets.spreads import PATIENCE, Falling, Live, Rising
 from seldomflip.sets.tables import live_states
 
 
@@ -44,71 +44,122 @@ def masks_that_matter(rows, goods, first, ahead):
     return found
 
 
-def minimal_table(rows, goods, most):
-    """Rows and good states of the least table of the good logs above no other good log."""
-    good_mask = true_mask(goods)
-    live = live_states(rows, goods)
-    before = columns_before(rows)
-    columns = [[1 << row[at] for row in rows] for at in range(len(rows[0]))]
+class Minimal:
+    """The configs of the minimal logs."""
 
-    def ahead(mask, at):
-        return mask | image_of(mask, before[at])
+    def __init__(self, rows, goods):
+        self.width = len(rows[0])
+        self._rows = rows
+        self._before = columns_before(rows)
+        self._goods = goods
+        self._good_mask = true_mask(goods)
+        self._live = live_states(rows, goods)
+        self._columns = [[1 << row[at] for row in rows] for at in range(self.width)]
+        self._matter = masks_that_matter(rows, goods, self._good_mask, self._ahead)
+        self._rising = Rising(rows, goods)
+        self.first_config = (0, 0) if self._live[0] else None
 
-    matter = masks_that_matter(rows, goods, good_mask, ahead)
+    def _ahead(self, mask, at):
+        """The mask of the states of the mask, and of those from which the event leads to one of them."""
+        return mask | image_of(mask, self._before[at])
 
-    def step(config, at):
+    def _config(self, state, mask):
+        """The config of a state and a mask, or None."""
+        # what leads from the state to a good one would also do so without some events
+        if not self._live[state] or mask & (self._good_mask | 1 << state):
+            return None
+        return (state, mask & self._matter[state])
+
+    def _mask_behind(self, config, at):
+        """The mask of the states behind the logs that occur in that of a config with one event more."""
+        state, mask = config
+        return mask | image_of(mask, self._columns[at]) | 1 << state
+
+    def behind(self, config, at):
+        """The config behind one event more."""
         if config is None:
             return None
-        state, mask = config
-        following = rows[state][at]
-        mask = (mask | image_of(mask, columns[at]) | 1 << state) & matter[following]
-        # what leads from the state to a good one would also do so without some events
-        return None if not live[following] or mask & (good_mask | 1 << following) else (following, mask)
+        return self._config(self._rows[config[0]][at], self._mask_behind(config, at))
 
-    def is_good(config):
-        return config is not None and goods[config[0]]
+    def filled_behind(self, config, at):
+        """The config behind one event more, with the states that add nothing."""
+        if config is None:
+            return None
+        return self._config(self._rows[config[0]][at], self._rising.filled(self._mask_behind(config, at)))
 
-    return settled((0, 0) if live[0] else None, len(rows[0]), step, is_good, most, None)
+    def is_good(self, config):
+        """Whether the log of the config is minimal."""
+        return config is not None and self._goods[config[0]]
 
 
-def masks_later(falling):
-    """For each state the mask of the states to which one or more events lead from it."""
-    found = []
-    for row in falling.rows:
-        mask = 0
+class Maximal:
+    """The configs of the maximal logs."""
+
+    def __init__(self, rows, goods):
+        falling = Falling(rows, [0])
+        self.width = len(rows[0])
+        self._falling = falling
+        self._before = columns_before(falling.rows)
+        self._leading = falling.leading()
+        self._goods = [goods[state] for state in falling.order]
+        self._good_mask = true_mask(self._goods)
+        self._live = Live(falling, self._good_mask)
+        self._matter = masks_that_matter(falling.rows, self._goods, self._live.goods, self._ahead)
+        self._later = [self._mask_later(row) for row in falling.rows]
+        begin = falling.place[0]
+        self.first_config = self._config(begin, self._later[begin])
+
+    def _ahead(self, mask, at):
+        """The mask of the states from which the event leads to the mask, perhaps behind other ones."""
+        return image_of(image_of(mask, self._before[at]), self._leading)
+
+    def _mask_later(self, row):
+        """The mask of the states to which one or more events lead, by the row of the first one."""
+        found = 0
         for following in row:
-            mask |= falling.reach[following]
-        found.append(mask)
+            found |= self._falling.reach[following]
+        return found
+
+    def _config(self, state, mask):
+        """The config of a state and a mask, or None."""
+        # what leads from the state to a good one would also do so with more events
+        if not self._matter[state] or mask >> state & 1:
+            return None
+        return (state, mask & self._matter[state])
+
+    def behind(self, config, at):
+        """The config behind one event more."""
+        if config is None:
+            return None
+        state = self._falling.rows[config[0]][at]
+        return self._config(state, self._falling.behind(config[1], at) | self._later[state])
+
+    def filled_behind(self, config, at):
+        """The config behind one event more, with the states that add nothing."""
+        if config is None:
+            return None
+        state = self._falling.rows[config[0]][at]
+        mask = self._falling.behind(config[1], at) | self._later[state]
+        return self._config(state, self._live.filled(mask & self._live.goods))
+
+    def is_good(self, config):
+        """Whether the log of the config is maximal."""
+        return config is not None and self._goods[config[0]] and config[1] & self._good_mask == 0
+
+
+def least_extremes(configs, most):
+    """Rows and good states of the least table of the logs of the configs."""
+    found = settled(configs.first_config, configs.width, configs.behind, configs.is_good, most, PATIENCE)
+    if found is None:
+        found = settled(configs.first_config, configs.width, configs.filled_behind, configs.is_good, most, None)
     return found
+
+
+def minimal_table(rows, goods, most):
+    """Rows and good states of the least table of the good logs above no other good log."""
+    return least_extremes(Minimal(rows, goods), most)
 
 
 def maximal_table(rows, goods, most):
     """Rows and good states of the least table of the good logs below no other good log."""
-    falling = Falling(rows, [0])
-    near = falling.rows
-    known = [goods[state] for state in falling.order]
-    good_mask = true_mask(known)
-    before = columns_before(near)
-    leading = turned_masks(falling.reach)
-
-    def ahead(mask, at):
-        return image_of(image_of(mask, before[at]), leading)
-
-    matter = masks_that_matter(near, known, falling.leading_to(good_mask), ahead)
-    later = masks_later(falling)
-
-    def with_mask(state, mask):
-        mask = (mask | later[state]) & matter[state]
-        # what leads from the state to a good one would also do so with more events
-        return None if not matter[state] or mask >> state & 1 else (state, mask)
-
-    def step(config, at):
-        if config is None:
-            return None
-        state, mask = config
-        return with_mask(near[state][at], falling.behind(mask, at))
-
-    def is_good(config):
-        return config is not None and known[config[0]] and config[1] & good_mask == 0
-
-    return settled(with_mask(falling.place[0], 0), len(rows[0]), step, is_good, most, None)
+    return least_extremes(Maximal(rows, goods), most)

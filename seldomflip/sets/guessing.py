@@ -56,7 +56,7 @@ def guess(spread, begin, tests, most):
         mask = masks[len(rows)]
         row = []
         for letter in range(spread.width):
-            following = spread.behind(mask, letter)
+            following = spread.filled(spread.behind(mask, letter))
             answers = answers_to(tests, following)
             if answers not in number:
                 number[answers] = len(masks)
@@ -97,8 +97,8 @@ def parted_paths(spread, alike):
         mask, other, path = pairs[at]
         at += 1
         for letter in range(spread.width):
-            one = spread.behind(mask, letter)
-            two = spread.behind(other, letter)
+            one = spread.filled(spread.behind(mask, letter))
+            two = spread.filled(spread.behind(other, letter))
             if (one & spread.goods == 0) != (two & spread.goods == 0):
                 found.append(path + (letter,))
             elif one != two and filled_up(one, rules) != filled_up(two, rules):

@@ -43,25 +43,16 @@ def columns_before(rows):
     return columns
 
 
-def turned_masks(masks):
-    """For each state the mask of the states whose masks contain it."""
-    found = [0 for _ in masks]
-    for state, mask in enumerate(masks):
-        for other in bits_of(mask):
-            found[other] |= 1 << state
-    return found
-
-
-def united(rows, masks):
+def united(rows, masks, order):
     """For each state the union of the masks of the states that can be reached from it.
 
-    Quick if the states stand ahead of those they lead to.
+    Quick if most states stand in the order behind those they lead to.
     """
     found = list(masks)
     changed = True
     while changed:
         changed = False
-        for state in reversed(range(len(rows))):
+        for state in order:
             mask = found[state]
             for following in rows[state]:
                 mask |= found[following]

@@ -1,11 +1,23 @@
-"""Spreads: which states of a table can be behind a log once events are put in, or left out, anywhere."""
+"""Spreads: which states of a table can be behind a log once events are put in, or left out, anywhere.
+
+Different masks can stand for the same logs. Where this gets in the way, a mask is filled with the
+states that add no logs to it, as far as can be seen from single states: a state is under another one
+if it is no better, and each event leads from it to a state under one to which the other one can go.
+"""
 
 from seldomflip.sets.guessing import guessed
-from seldomflip.sets.masks import columns_before, image_of, true_mask, turned_masks, united
+from seldomflip.sets.masks import columns_before, image_of, true_mask, united
 from seldomflip.sets.settling import settled
-from seldomflip.sets.tables import last_first, live_states
+from seldomflip.sets.tables import last_first, live_states, states_before
 
-PATIENCE = 20000
+PATIENCE = 3000
+MORE_PATIENCE = 20000
+
+
+def masks_going_out(rows, goal):
+    """For each letter the mask of the states from which it leads to no state of the goal, a mask."""
+    width = len(rows[0]) if rows else 0
+    return [true_mask([not goal >> row[at] & 1 for row in rows]) for at in range(width)]
 
 
 class Rising:
@@ -15,16 +27,17 @@ class Rising:
     """
 
     def __init__(self, rows, goods):
-        live = live_states(rows, goods)
+        self._rows = rows
+        self._live = true_mask(live_states(rows, goods))
         self.width = len(rows[0])
         self.goods = true_mask(goods)
-        self._rows = rows
-        self._columns = [[1 << row[at] if live[row[at]] else 0 for row in rows] for at in range(self.width)]
+        self._columns = [[1 << row[at] & self._live for row in rows] for at in range(self.width)]
         self._before = None
+        self._under = None
 
     def entry(self, state):
         """The mask at the beginning, with one state."""
-        return self.goods if self.goods >> state & 1 else 1 << state
+        return self.goods if self.goods >> state & 1 else 1 << state & self._live
 
     def behind(self, mask, at):
         """The mask behind one event more."""
@@ -32,10 +45,35 @@ class Rising:
         return self.goods if found & self.goods else found
 
     def ahead(self, mask, at):
-        """The states from which one event more leads to the mask."""
+        """The states from which one event more leads to a state of the mask."""
         if self._before is None:
             self._before = columns_before(self._rows)
         return mask | image_of(mask, self._before[at])
+
+    def filled(self, mask):
+        """The mask with the states that add no logs to it."""
+        if self._under is None:
+            self._under = self._states_under()
+        return self.goods if mask & self.goods else image_of(mask, self._under)
+
+    def _states_under(self):
+        """For each state the mask of those under it."""
+        before = columns_before(self._rows)
+        out = masks_going_out(self._rows, self._live)
+        others = self._live & ~self.goods
+        under = [self._live if self.goods >> state & 1 else others for state in range(len(self._rows))]
+        changed = True
+        while changed:
+            changed = False
+            for state in reversed(range(len(self._rows))):
+                mask = under[state]
+                if not self.goods >> state & 1:
+                    for at, following in enumerate(self._rows[state]):
+                        mask &= out[at] | image_of(under[state] | under[following], before[at])
+                if mask != under[state]:
+                    under[state] = mask
+                    changed = True
+        return under
 
 
 class Falling:
@@ -46,32 +84,39 @@ class Falling:
     """
 
     def __init__(self, rows, begins):
-        order = last_first(rows, begins)[::-1]
-        self.place = {state: at for at, state in enumerate(order)}
-        self.rows = [[self.place[following] for following in rows[state]] for state in order]
-        self.order = order
+        self.order = last_first(rows, begins)[::-1]
+        self.place = {state: at for at, state in enumerate(self.order)}
+        self.rows = [[self.place[following] for following in rows[state]] for state in self.order]
         self.width = len(rows[0])
-        self.reach = united(self.rows, [1 << state for state in range(len(order))])
-        self._images = [united(self.rows, [self.reach[row[at]] for row in self.rows]) for at in range(self.width)]
+        self.reach = self.united([1 << state for state in range(len(self.order))])
+        self._images = [self.united([self.reach[row[at]] for row in self.rows]) for at in range(self.width)]
 
-    def behind(self, mask, at):
-        """The mask behind one event more."""
-        images = self._images[at]
+    def united(self, masks):
+        """For each state the union of the masks of the states that can be reached from it."""
+        return united(self.rows, masks, list(range(len(self.rows)))[::-1])
+
+    def leading(self):
+        """For each state the mask of the states that lead to it."""
+        states = list(range(len(self.rows)))
+        return united(states_before(self.rows), [1 << state for state in states], states)
+
+    def over(self, mask, columns):
+        """The union of what the columns tell for a mask, where a state tells all that those after it tell."""
         found = 0
         while mask:
             low = mask & -mask
             state = low.bit_length() - 1
-            found |= images[state]
+            found |= columns[state]
             mask &= ~self.reach[state]
         return found
 
+    def behind(self, mask, at):
+        """The mask behind one event more."""
+        return self.over(mask, self._images[at])
+
     def leading_to(self, mask):
         """The mask of the states that lead to one of the mask."""
-        found = 0
-        for state, reached in enumerate(self.reach):
-            if reached & mask:
-                found |= 1 << state
-        return found
+        return true_mask([reached & mask for reached in self.reach])
 
 
 class Live:
@@ -83,17 +128,86 @@ class Live:
         self._falling = falling
         self._before = None
         self._leading = None
+        self._under = None
 
     def behind(self, mask, at):
         """The mask behind one event more."""
         return self._falling.behind(mask, at) & self.goods
 
     def ahead(self, mask, at):
-        """The states from which one event more leads to the mask."""
+        """The states from which one event more leads to a state of the mask."""
         if self._before is None:
             self._before = columns_before(self._falling.rows)
-            self._leading = turned_masks(self._falling.reach)
+            self._leading = self._falling.leading()
         return image_of(image_of(mask, self._before[at]), self._leading) & self.goods
+
+    def filled(self, mask):
+        """The mask with the states that add no logs to it."""
+        if self._under is None:
+            self._under = Under(self._falling, self.goods).masks
+        return self._falling.over(mask, self._under)
+
+
+class Under:
+    """For each state of a falling spread the mask of those under it, of which all lead to a good one.
+
+    Here all states that can be reached count as those to which one can go, and with a state all that
+    it leads to is under another one.
+    """
+
+    def __init__(self, falling, live):
+        rows = falling.rows
+        self._falling = falling
+        self._live = live
+        self._before = [falling.united(columns) for columns in columns_before(rows)]
+        self._out = masks_going_out(rows, live)
+        self._leading = falling.leading()
+        self.masks = [0 for _ in rows]
+        # for each letter and state the mask of those under one that the letter, perhaps later, leads to
+        self._ahead = [[0 for _ in rows] for _ in range(falling.width)]
+        groups = {}
+        for state in reversed(range(len(rows))):
+            groups.setdefault(falling.reach[state], []).append(state)
+        # the states of a group lead to one another, those of later groups lead to them
+        for reached in groups:
+            if reached & live:
+                self._settle(groups[reached])
+
+    def _settle(self, states):
+        """Finds the mask of the states of a group, from the greatest one on."""
+        mask = self._live
+        worse = mask
+        while worse:
+            for state in states:
+                self.masks[state] = mask
+            worse = 0
+            for at in range(self._falling.width):
+                worse |= mask & ~(self._out[at] | self._falling.over(self._targets(states, at), self._before[at]))
+            mask &= ~self._all_leading_to(worse)
+
+    def _targets(self, states, at):
+        """The mask of those under one that the letter, perhaps later, leads to from a group."""
+        rows = self._falling.rows
+        reach = self._falling.reach
+        ahead = self._ahead[at]
+        found = 0
+        for state in states:
+            found |= self.masks[rows[state][at]]
+            for following in rows[state]:
+                if reach[following] != reach[state]:
+                    found |= ahead[following]
+        for state in states:
+            ahead[state] = found
+        return found
+
+    def _all_leading_to(self, mask):
+        """The mask of the states that lead to one of the mask, the last ones first."""
+        found = 0
+        while mask:
+            leading = self._leading[mask.bit_length() - 1]
+            found |= leading
+            mask &= ~leading
+        return found
 
 
 def least_spread(spread, begin, most):
@@ -101,8 +215,13 @@ def least_spread(spread, begin, most):
     def is_good(mask):
         return mask & spread.goods != 0
 
+    def step(mask, at):
+        return spread.filled(spread.behind(mask, at))
+
     found = settled(begin, spread.width, spread.behind, is_good, most, PATIENCE)
-    return guessed(spread, begin, most) if found is None else found
+    if found is None:
+        found = settled(spread.filled(begin), spread.width, step, is_good, most, MORE_PATIENCE)
+    return guessed(spread, spread.filled(begin), most) if found is None else found
 
 
 def above_table(rows, goods, begin, most):

@@ -1,0 +1,1 @@
+"""Judges, and answers to histories."""

@@ -1,0 +1,1 @@
+"""Towers, and how often answers must change."""
