@@ -2,6 +2,7 @@
 
 import copy
 import random
+import sys
 from itertools import combinations, permutations, product
 
 from seldomflip.base.logs import Growth
@@ -33,6 +34,30 @@ def patterns_of(log, longest=None):
 
 def are_alike(log, other, k):
     return patterns_of(log, k) == patterns_of(other, k)
+
+
+def first_like(log, k):
+    """The first log with the same patterns of at most k events, by going through all logs without other ones.
+
+    Logs with the same patterns so far go on alike, so only the first one of them is gone on with.
+    """
+    wanted = sorted(patterns_of(log, k))
+    place = {pattern: at for at, pattern in enumerate(wanted)}
+    letters = sorted(set(log))
+    longer = {letter: [place.get(pattern + (letter,), -1 if len(pattern) < k else at) for at, pattern in enumerate(wanted)]
+              for letter in letters}
+    begin = frozenset([place[()]])
+    known = {begin}
+    queue = [((), begin)]
+    while True:
+        one, found = queue.pop(0)
+        if len(found) == len(wanted):
+            return one
+        for letter in letters:
+            more = frozenset(longer[letter][at] for at in found) | found
+            if -1 not in more and more not in known:
+                known.add(more)
+                queue.append((one + (letter,), more))
 
 
 def steps_of(log):
@@ -76,6 +101,24 @@ NO_LOGS = OTHERS + NUMBERS + (
     TOO_LONG, FULL + ("a",), deep((), 9), (10 ** 59,))
 # no one of these is an integer
 NO_NUMBERS = OTHERS + ((), (1,), "1", ("a",), [1], {1: 1}, deep(1, 9))
+
+
+def lines_of(call, *values):
+    """How many lines of Python are run for the call."""
+    many = 0
+
+    def count(frame, event, _):
+        nonlocal many
+        many += event == "line"
+        return count
+
+    before = sys.gettrace()
+    sys.settrace(count)
+    try:
+        call(*values)
+    finally:
+        sys.settrace(before)
+    return many
 
 
 def unchanged(case, call, *values, **named):

@@ -179,6 +179,36 @@ class FirstAlikeTest(unittest.TestCase):
     def test_four_letters(self):
         self.check("abcd", 4)
 
+    def test_up_to_twelve_events(self):
+        source = random.Random(17)
+        for letters, most in (("a", 4), ("ab", 4), ("abc", 4), ("abcd", 4)):
+            for k in range(most + 1):
+                for many in range(13):
+                    for _ in range(4 if len(letters) > 1 else 1):
+                        log = tuple(source.choice(letters) for _ in range(many))
+                        self.assertEqual(first_alike(log, k), plain.first_like(log, k), (log, k))
+
+    def test_plain_search_for_longer_logs(self):
+        for letters, most in (("ab", 6), ("abc", 4)):
+            for k in range(4):
+                firsts = {}
+                for log in plain.all_logs(letters, most):
+                    wanted = firsts.setdefault(frozenset(plain.patterns_of(log, k)), log)
+                    self.assertEqual(plain.first_like(log, k), wanted)
+
+    def test_logs_of_200_events(self):
+        self.assertEqual(first_alike(plain.FULL, 0), ())
+        self.assertEqual(first_alike(plain.FULL, 3), ("a", "b") * 3)
+        self.assertEqual(first_alike(("a",) * 200, 5), ("a",) * 5)
+        self.assertEqual(first_alike(("a",) * 200, 200), ("a",) * 200)
+
+    def test_long_logs_take_few_steps(self):
+        # lines of the package that are run for a call, which do not hang on the machine
+        for log, k in ((plain.FULL, 0), (plain.FULL, 3), (("a",) * 200, 5), (("a",) * 200, 200)):
+            self.assertLess(plain.lines_of(first_alike, log, k), 10000)
+            self.assertLess(plain.lines_of(alike_paper, log, log[::-1], k), 30000)
+            self.assertLess(plain.lines_of(alike_paper, log, log[1:], k), 30000)
+
     def test_longer_logs(self):
         source = random.Random(7)
         for many in (20, 60, 200):

@@ -2,6 +2,7 @@
 
 from seldomflip.base.checks import check_number, is_whole
 from seldomflip.base.logs import MAX_EVENTS, check_log, is_any_log
+from seldomflip.base.steps import both_numbers, log_behind_all, steps_to_first, straightened, thinned
 from seldomflip.base.ways import is_below, next_places
 from seldomflip.errors import InvalidNumber, InvalidOperation
 
@@ -90,18 +91,20 @@ def read_back(came, pair):
     return tuple(letters[::-1])
 
 
-def first_parting(log, other):
-    """The first log that is a pattern of exactly one of them, or None."""
+def first_parting(log, other, longest):
+    """The first log, of at most so many events, that is a pattern of exactly one of them, or None."""
+    if log == other:
+        return None
     letters = sorted(set(log + other))
     rows = next_places(log, letters)
     columns = next_places(other, letters)
     # the first logs reach their pairs of places first, as the pairs stand in the order of logs
     pairs = [(0, 0)]
+    lengths = [0]
     came = {(0, 0): None}
     at = 0
-    while at < len(pairs):
+    while at < len(pairs) and lengths[at] < longest:
         pair = pairs[at]
-        at += 1
         for letter, one, two in zip(letters, rows[pair[0]], columns[pair[1]]):
             if (one == len(log)) != (two == len(other)):
                 return read_back(came, pair) + (letter,)
@@ -109,6 +112,8 @@ def first_parting(log, other):
             if one < len(log) and following not in came:
                 came[following] = (pair, letter)
                 pairs.append(following)
+                lengths.append(lengths[at] + 1)
+        at += 1
     return None
 
 
@@ -116,7 +121,8 @@ def parting(log, other):
     """The first log that is a pattern of exactly one of them, or None if they are equal."""
     check_log(log)
     check_log(other)
-    return first_parting(log, other)
+    # the longer one of two different logs, or each one, is a pattern of one of them only
+    return first_parting(log, other, MAX_EVENTS)
 
 
 def alike(log, other):
@@ -130,37 +136,7 @@ def is_alike(log, other, k):
     check_log(log)
     check_log(other)
     check_bound(k)
-    found = first_parting(log, other)
-    return found is None or len(found) > k
-
-
-def number_from(numbers, place):
-    """The left number of an event behind the numbered ones that was last at this place, or nowhere."""
-    return 1 if place is None else 1 + min(numbers[place:])
-
-
-def numbered(log):
-    """The left numbers of the log, and the last place of each event."""
-    numbers = []
-    places = {}
-    for at, event in enumerate(log):
-        numbers.append(number_from(numbers, places.get(event)))
-        places[event] = at
-    return numbers, places
-
-
-def numbers_behind(log, letters):
-    """The left number that each of the letters would have behind the log."""
-    numbers, places = numbered(log)
-    return [number_from(numbers, places.get(letter)) for letter in letters]
-
-
-def both_numbers(log):
-    """The left numbers and the right numbers of all positions."""
-    left, _ = numbered(log)
-    # what stands last in the log stands first in the reversed one
-    right, _ = numbered(log[::-1])
-    return left, right[::-1]
+    return first_parting(log, other, k) is None
 
 
 def left_numbers(log):
@@ -177,51 +153,11 @@ def right_numbers(log):
     return tuple(right)
 
 
-def is_step(log, value):
-    """Whether the value is a step for the log, allowed or not."""
-    if not isinstance(value, tuple) or len(value) != 2 or not is_whole(value[1]):
-        return False
-    kind, at = value
-    if kind == "out":
-        return 0 <= at < len(log)
-    return kind == "turn" and 0 <= at < len(log) - 1 and log[at] != log[at + 1]
-
-
-def keeps_alike(log, k, step):
-    """Whether the log behind the step is alike to the log up to k."""
-    kind, at = step
-    width = 1 if kind == "out" else 2
-    moved = log[at:at + width]
-    left = numbers_behind(log[:at], moved)
-    right = numbers_behind(log[at + width:][::-1], moved)
-    if kind == "out":
-        return left[0] + right[0] > k + 1
-    # the second sum is that in the result, where the events have changed places
-    return left[0] + right[1] > k and left[1] + right[0] > k
-
-
-def log_behind_step(log, step):
-    """The log behind a step."""
-    kind, at = step
-    if kind == "out":
-        return log[:at] + log[at + 1:]
-    return log[:at] + (log[at + 1], log[at]) + log[at + 2:]
-
-
-def log_behind_all(log, k, taken):
-    """The log behind the steps, or None if one of them is not allowed."""
-    for step in taken:
-        if not is_step(log, step) or not keeps_alike(log, k, step):
-            return None
-        log = log_behind_step(log, step)
-    return log
-
-
 def is_allowed(log, k, value):
     """Whether the value is an allowed step for the log and k."""
     check_log(log)
     check_bound(k)
-    return is_step(log, value) and keeps_alike(log, k, value)
+    return log_behind_all(log, k, (value,)) is not None
 
 
 def after_steps(log, k, *steps):
@@ -234,65 +170,12 @@ def after_steps(log, k, *steps):
     return found
 
 
-def place_to_leave_out(log, k):
-    """The first position that can be left out, or None."""
-    left, right = both_numbers(log)
-    for at in range(len(log)):
-        if left[at] + right[at] > k + 1:
-            return at
-    return None
-
-
-def thinned(log, k):
-    """A shortest log that is alike up to k, and the steps to it."""
-    taken = []
-    at = place_to_leave_out(log, k)
-    while at is not None:
-        step = ("out", at)
-        taken.append(step)
-        log = log_behind_step(log, step)
-        at = place_to_leave_out(log, k)
-    return log, taken
-
-
-def turn_places(log, k):
-    """For each position but the last one, whether its event may be exchanged with the next one.
-
-    In a shortest log this holds exactly where the numbers of both are equal and sum to k + 1. All
-    events then keep their numbers, so the places stay the same behind every such turn.
-    """
-    left, right = both_numbers(log)
-    pairs = list(zip(left, right))
-    return [one == two and sum(one) == k + 1 for one, two in zip(pairs, pairs[1:])]
-
-
-def straightened(log, k):
-    """The first log that turns lead to from a shortest one, and the steps to it."""
-    may_turn = turn_places(log, k)
-    taken = []
-    for end in range(1, len(log)):
-        at = end - 1
-        while at >= 0 and may_turn[at] and log[at] > log[at + 1]:
-            step = ("turn", at)
-            taken.append(step)
-            log = log_behind_step(log, step)
-            at -= 1
-    return log, taken
-
-
-def to_first(log, k):
-    """The first log that is alike up to k, and allowed steps that lead to it."""
-    short, outs = thinned(log, k)
-    first, turns = straightened(short, k)
-    return first, tuple(outs + turns)
-
-
 def first_alike(log, k):
     """The first log that is alike to the log up to k."""
     check_log(log)
     check_bound(k)
-    first, _ = to_first(log, k)
-    return first
+    short, _ = thinned(log, k)
+    return straightened(short, k)
 
 
 def alike_paper(log, other, k):
@@ -300,12 +183,10 @@ def alike_paper(log, other, k):
     check_log(log)
     check_log(other)
     check_bound(k)
-    pattern = first_parting(log, other)
-    if pattern is not None and len(pattern) <= k:
+    pattern = first_parting(log, other, k)
+    if pattern is not None:
         return ("parted", pattern)
-    _, taken = to_first(log, k)
-    _, other_taken = to_first(other, k)
-    return ("alike", taken, other_taken)
+    return ("alike", steps_to_first(log, k), steps_to_first(other, k))
 
 
 def is_meeting(log, other, k, taken, other_taken):
