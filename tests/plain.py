@@ -26,6 +26,12 @@ def is_below(log, other):
     return bool(ways(log, other))
 
 
+def fits(log, other):
+    """The same, told for long logs, too."""
+    events = iter(other)
+    return all(event in events for event in log)
+
+
 def patterns_of(log, longest=None):
     most = len(log) if longest is None else min(longest, len(log))
     return {tuple(log[at] for at in places)
@@ -58,6 +64,25 @@ def first_like(log, k):
             if -1 not in more and more not in known:
                 known.add(more)
                 queue.append((one + (letter,), more))
+
+
+def first_unlike(log, other):
+    """The first log that occurs in exactly one of them, or None, by going on from all logs that occur in both."""
+    def place_behind(one, begin, letter):
+        return one.index(letter, begin) + 1 if letter in one[begin:] else None
+
+    ends = {(0, 0): ()}
+    while ends:
+        longer = {}
+        for (one, two), pattern in ends.items():
+            for letter in sorted(set(log + other)):
+                pair = (place_behind(log, one, letter), place_behind(other, two, letter))
+                if (pair[0] is None) != (pair[1] is None):
+                    return pattern + (letter,)
+                if pair[0] is not None:
+                    longer.setdefault(pair, pattern + (letter,))
+        ends = longer
+    return None
 
 
 def steps_of(log):

@@ -10,7 +10,7 @@ from seldomflip.errors import InvalidChain, InvalidLetters, InvalidLog, InvalidN
 from seldomflip.sets.chains import (
     avoiding, bars, chains_of, first_outside, full_log, is_chain, is_in_chain, is_list_of, is_within, list_logs, reduced,
     rest_of)
-from seldomflip.sets.closures import above_of, below_of, is_closed_down
+from seldomflip.sets.closures import above_of, below, below_of, is_closed_down
 from seldomflip.sets.logsets import Logs
 from seldomflip.sets.unions import least_outside
 
@@ -107,6 +107,18 @@ class ChainTest(unittest.TestCase):
                 missing = plain.in_order(logs - others)
                 self.assertIs(is_within(chain, other), not missing, (chain, other))
                 self.assertEqual(first_outside(chain, other), missing[0] if missing else None)
+
+    def test_long_letters(self):
+        both, letter, letters = ("maybe", "ab"), ("any", ("ab",)), ("any", ("a", "ab", "b"))
+        for chain, other, wanted in (((both,), (ANY,), False), ((both,), (A, B), False), ((A, B), (both,), False),
+                                     ((both,), (letter,), True), ((both, both), (both,), False), ((letter,), (ANY,), False),
+                                     ((both, letter, A), (letters,), True), ((letter, ANY), (letters,), True)):
+            self.assertIs(is_within(chain, other), wanted)
+            self.assertIs(first_outside(chain, other) is None, wanted)
+        self.assertEqual([first_outside((both,), (ANY,)), reduced((both, ANY)), reduced((both, letters))],
+                         [("ab",), (both, ANY), (letters,)])
+        self.assertEqual([is_in_chain((ANY,), ("ab",)), rest_of((both, A), ("ab",)), full_log((letters, both), 1)],
+                         [False, (A,), ("a", "ab", "b", "ab")])
 
     def test_reduced(self):
         for chain in all_chains(AB, 3) + some_chains(34, 100, ABC, 6):
@@ -244,6 +256,10 @@ class ListTest(unittest.TestCase):
         self.assertIs(is_list_of(Logs.nothing(AB), ()), True)
         self.assertIs(is_list_of(Logs.nothing(AB), ((),)), False)
         self.assertIs(is_list_of(Logs.listing(AB, ("a",)), ((A,),)), False)
+        # no such set is closed downward
+        for logs in (Logs.listing(AB, ("a",)), ALL - Logs.listing(AB, ()), Logs.listing(AB, (), ("a", "b")), Logs(plain.EVEN)):
+            for value in ((), ((),), ((A, B),), ((ANY,),), ((("any", ("b",)),),), chains_of(below(logs))):
+                self.assertIs(is_list_of(logs, value), False)
 
     def test_states(self):
         self.assertEqual(len(list_logs(AB, ((A,) * 198,))), 200)
@@ -318,6 +334,7 @@ class ListTest(unittest.TestCase):
         for value in plain.OTHERS + plain.NUMBERS + ((), (A,), ((A,),), plain.EVEN):
             plain.refused(self, InvalidOperation, chains_of, value)
             plain.refused(self, InvalidOperation, is_list_of, value, ())
+            plain.refused(self, InvalidOperation, is_list_of, value, None)
         for opened in (Logs(plain.EVEN), ~Logs.listing(AB, ()), Logs.listing(AB, ("a",))):
             plain.refused(self, InvalidOperation, chains_of, opened)
 

@@ -7,8 +7,10 @@ from unittest import mock
 
 import plain
 from plain import AB, EVEN, PLAIN, label
+from seldomflip.base.logs import minimal_of
 from seldomflip.errors import InvalidLetters, InvalidLog, InvalidOperation, TooMany
-from seldomflip.sets import guessing
+from seldomflip.sets import extremes, guessing, spreads
+from seldomflip.sets.chains import avoiding
 from seldomflip.sets.closures import (
     above, above_of, below, below_of, closure_paper, first_over, first_under, inside_down, inside_up, is_closed_down,
     is_closed_up, is_closure_paper, maximal, minimal)
@@ -74,6 +76,32 @@ class AboveTest(unittest.TestCase):
                 some = tuple(source.choice(logs) for _ in range(many))
                 self.assertEqual(plain.unchanged(self, above_of, AB, some), above(Logs.listing_of(AB, some)))
                 self.assertEqual(plain.unchanged(self, below_of, AB, some), below(Logs.listing_of(AB, some)))
+
+    def test_of_long_logs(self):
+        source = random.Random(29)
+        letters = ("a", "b", "c")
+        for many, short in ((1, 6), (2, 7), (3, 8), (6, 9), (9, 5)):
+            long = [tuple(source.choice("abc") for _ in range(source.randint(100, 200))) for _ in range(many)]
+            logs = tuple(long + [tuple(source.choice("abc") for _ in range(short)), ("c",) * 9, ("b", "a") * 2])
+            found = above_of(letters, logs)
+            self.assertEqual(found, above(Logs.listing_of(letters, minimal_of(logs))))
+            self.assertEqual(tuple(minimal(found).listed(longest=200)), minimal_of(logs))
+            for _ in range(100):
+                log = tuple(source.choice("abc") for _ in range(source.randint(0, 60)))
+                self.assertIs(log in found, any(plain.fits(one, log) for one in logs))
+
+    def test_many_long_logs_take_few_steps(self):
+        source = random.Random(30)
+        near = [list(FULL[:199]) for _ in range(5)]
+        for log in near:
+            for at in (20, 60, 150):
+                log[at + source.randrange(40)] = source.choice("ab")
+        loose = [[source.choice("ab") for _ in range(100)] for _ in range(9)]
+        for logs in (near, loose):
+            logs = tuple(tuple(log) for log in logs)
+            for call in (above_of, avoiding):
+                steps = plain.lines_of(plain.refused, self, TooMany, call, AB, logs)
+                self.assertLess(steps, 400000)
 
     def test_edges(self):
         self.assertEqual(above(EMPTY), EMPTY)
@@ -350,6 +378,8 @@ class PapersTest(unittest.TestCase):
             for paper in (("open", value, ("a",)), ("open", (), value), (value, (), ("a",)), ("open", (), ("a",), value)):
                 self.assertIs(is_closure_paper(Logs.listing(("a",), ()), paper), False, paper)
         self.assertIs(is_closure_paper(one, ("closed", ((0, 1), (1, 1)))), True)
+        for paper in (("closed", ((-1, 1), (0, 1), (1, 1))), ("closed", ((0, 1), (1, -1), (1, 1)))):
+            self.assertIs(is_closure_paper(one, paper), False, paper)
         for paper in (["closed", ((0, 1), (1, 1))], ("closed", [(0, 1), (1, 1)]), ("closed", ((1, 1), (0, 1))),
                       ("closed", ((0, 1), (0, 1), (1, 1))), ("closed", ((0, 1), (1, 1), (1, 2))), ("open", ((0, 1), (1, 1))),
                       ("closed", ((0, True), (1, 1))), ("Closed", ((0, 1), (1, 1))), ("closed",), ("closed", ())):
@@ -373,15 +403,17 @@ class WaysAgreeTest(unittest.TestCase):
         falling = Falling(rows, [0])
         live = Live(falling, true_mask([goods[state] for state in falling.order]))
         rising = Rising(rows, goods)
-        for spread, begin in ((rising, rising.entry(0)), (live, falling.reach[falling.place[0]] & live.goods)):
+        for spread, begin in ((rising, rising.begin_mask()), (live, falling.reach[falling.place[0]] & live.goods)):
             wanted = settled(begin, spread.width, spread.behind, lambda mask: mask & spread.goods != 0, 10 ** 9, None)
             self.assertEqual(least_table(*wanted, 0, 10 ** 9), wanted)
             found = settled(spread.filled(begin), spread.width, lambda mask, at: spread.filled(spread.behind(mask, at)),
                             lambda mask: mask & spread.goods != 0, 10 ** 9, None)
             self.assertEqual(found, wanted)
-            for many in (guessing.MANY_TESTS, 1, 5):
-                with mock.patch.object(guessing, "MANY_TESTS", many):
-                    self.assertEqual(guessing.guessed(spread, spread.filled(begin), 10 ** 9), wanted)
+            for step in (spread.behind, lambda mask, at: spread.filled(spread.behind(mask, at))):
+                for many in (guessing.MANY_TESTS, 1, 5):
+                    with mock.patch.object(guessing, "MANY_TESTS", many):
+                        tests, _ = guessing.first_tests(spread)
+                    self.assertEqual(guessing.guessed(spread, step, begin, tests, 10 ** 9), wanted)
             self.assertIs(settled(begin, spread.width, spread.behind, None, 10 ** 9, 0), None)
         for configs in (Minimal(rows, goods), Maximal(rows, goods)):
             first, width = configs.first_config, configs.width
@@ -393,6 +425,19 @@ class WaysAgreeTest(unittest.TestCase):
         for machine in SMALL + WIDE:
             _, rows, goods = least(machine)
             self.check(rows, goods)
+
+    def test_each_way_alone(self):
+        # with no patience for one way the next one is taken
+        calls = (above, below, minimal, maximal)
+        for machine in SMALL[::3] + WIDE:
+            logs = Logs(machine)
+            wanted = [call(logs) for call in calls]
+            with mock.patch.object(spreads, "PATIENCE", 0), mock.patch.object(extremes, "PATIENCE", 0):
+                self.assertEqual([call(logs) for call in calls], wanted)
+                with mock.patch.object(guessing, "MANY_TESTS", 1):
+                    self.assertEqual([call(logs) for call in calls], wanted)
+                    with mock.patch.object(spreads, "MORE_PATIENCE", 0):
+                        self.assertEqual([call(logs) for call in calls], wanted)
 
     def test_sets_without_loops(self):
         source = random.Random(28)

@@ -225,6 +225,12 @@ class KeeperTest(unittest.TestCase):
         more.tell(())
         more.tell(("a",))
         self.assertNotEqual(more, one)
+        # the same answers to other logs
+        loose, near = Keeper(ONCE, first="no"), Keeper(ONCE, first="no")
+        loose.tell(("b",))
+        near.tell(("b", "b"))
+        self.assertEqual([loose.answers, near.answers], [("no", "no"), ("no", "no")])
+        self.assertNotEqual(loose, near)
         for value in plain.OTHERS + plain.NUMBERS + plain.SETS + ((), ONCE):
             self.assertIs(one == value, False)
             self.assertIs(one != value, True)

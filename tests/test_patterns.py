@@ -1,5 +1,6 @@
 """Patterns, their number, and what parts two logs."""
 
+import random
 import unittest
 from itertools import islice, product
 
@@ -103,6 +104,27 @@ class PartingTest(unittest.TestCase):
         for log in logs:
             for other in logs:
                 self.check(log, other, known[log] ^ known[other])
+
+    def test_longer_logs(self):
+        source = random.Random(3)
+        logs = [log for log in plain.all_logs("abc", 3)]
+        for log in logs:
+            for other in logs:
+                self.assertEqual(plain.first_unlike(log, other), parting(log, other))
+        for most in (8, 12, 30, 200):
+            for letters in ("a", "ab", "abc", "abcd"):
+                for changes in (1, 2, 6, 200):
+                    log = tuple(source.choice(letters) for _ in range(source.randint(most // 2, most)))
+                    other = list(log)
+                    for _ in range(min(changes, most)):
+                        at = source.randrange(len(other))
+                        other[at:at + source.randint(0, 2)] = [source.choice(letters) for _ in range(source.randint(0, 1))]
+                        other = other or ["a"]
+                    other = tuple(other)
+                    first = plain.first_unlike(log, other)
+                    self.assertEqual([parting(log, other), parting(other, log)], [first, first])
+                    for k in (0, 1, 2, 3, 5, 200):
+                        self.assertIs(is_alike(log, other, k), first is None or len(first) > k)
 
     def check(self, log, other, parts):
         first = plain.in_order(parts)[0] if parts else None

@@ -208,6 +208,13 @@ class FirstAlikeTest(unittest.TestCase):
             self.assertLess(plain.lines_of(first_alike, log, k), 10000)
             self.assertLess(plain.lines_of(alike_paper, log, log[::-1], k), 30000)
             self.assertLess(plain.lines_of(alike_paper, log, log[1:], k), 30000)
+        source = random.Random(9)
+        for letters in ("ab", "abc", "abcd"):
+            log, other = [tuple(source.choice(letters) for _ in range(200)) for _ in range(2)]
+            for k in (0, 1, 3, 5, 20, 200):
+                self.assertLess(plain.lines_of(first_alike, log, k), 10000)
+                self.assertLess(plain.lines_of(alike_paper, log, log, k), 20000)
+                self.assertLess(plain.lines_of(alike_paper, log, other, k), 120000)
 
     def test_longer_logs(self):
         source = random.Random(7)

@@ -37,6 +37,24 @@ def chain_judge(many):
     return plain.tail_judge(tuple("pq"[at % 2] for at in range(many)), many - 1)
 
 
+def high_judge(row, first):
+    """A judge with forty states and high towers: with d it goes on to the next one of five parts."""
+    part = ((7, 3, 1), (3, 1, 3), (2, 4, 4), (4, 2, 5), (6, 4, 5), (5, 5, 6), (7, 6, 6), (7, 7, 7))
+    last = ((7, 3, 1, 4), (3, 1, 3, 1), (2, 4, 2, 2), row, (6, 4, 5, 6), (5, 5, 6, 5), (7, 6, 6, 6), (7, 7, 7, 7))
+    rows = [tuple(begin + state for state in row + (8,)) for begin in (0, 8, 16, 24) for row in part]
+    rows += [tuple(32 + state for state in row) for row in last]
+    return (("a", "b", "c", "d"), tuple(rows), (first,) + tuple("xxyyyxy") + tuple("xxxyyyxy") * 4)
+
+
+def with_swing(judge):
+    """Behind a it is the judge; behind d the last event decides, so there is no end of the towers."""
+    dead = len(judge[1]) + 4
+    last = dead - 3
+    rows = ((1, dead, dead, last),) + tuple(tuple(state + 1 for state in row) + (dead,) for row in judge[1])
+    rows += ((last + 1, last + 2, dead, dead),) * 3 + ((dead,) * 4,)
+    return (("a", "b", "c", "d"), rows, (None,) + judge[2] + (None, "x", "y", None))
+
+
 def plain_rounds(judge):
     """The rounds by their definition, from sets of logs."""
     verdicts = verdicts_of(judge)
@@ -184,6 +202,13 @@ class RoundsTest(unittest.TestCase):
         plain.refused(self, InvalidLog, reach, WIDER, ("d",))
         plain.refused(self, InvalidLog, tower_above, WIDER, "x", 1, start=("d",))
 
+    def test_too_many_states_come_ahead_of_unlimited(self):
+        for name in ("x", "y"):
+            plain.refused(self, Unlimited, highest_tower, with_swing(THREE), name)
+            self.assertEqual(height_paper(with_swing(THREE), name)[0], "swing")
+            for call in (highest_tower, height_paper):
+                self.assertEqual(plain.refused(self, TooMany, call, with_swing(WIDER), name).limit, 200)
+
     def test_forty_states(self):
         judge = chain_judge(40)
         self.assertEqual(heights(judge), {"p": 40, "q": 39})
@@ -199,6 +224,29 @@ class RoundsTest(unittest.TestCase):
         # forty rounds come before the first one at rest
         self.assertEqual(len(all_rounds(chain_judge(40), 40)), 41)
         self.assertEqual(plain.refused(self, TooMany, all_rounds, chain_judge(40), 39).limit, 39)
+
+    def test_200_rounds(self):
+        judge = high_judge((4, 2, 5, 3), "x")
+        self.assertEqual(len(list(rounds(judge))), 201)
+        self.assertEqual([heights(judge), height(judge, "y")], [{"x": 200, "y": 199}, 199])
+        paper = height_paper(judge, "x")
+        self.assertEqual([len(paper[1]), len(paper[2])], [200, 201])
+        # its last logs have more than 200 events
+        self.assertGreater(len(paper[1][-1]), 200)
+        self.assertIs(is_plain_tower(judge, paper[1]), True)
+        self.assertIs(is_height_paper(judge, "x", paper), True)
+        self.assertEqual(highest_tower(judge, "x"), paper[1])
+        self.assertEqual(tower_above(judge, "y", 199)[0], highest_tower(judge, "y")[0])
+
+    def test_201_rounds(self):
+        judge = high_judge((7, 2, 5, 3), None)
+        self.assertEqual(len(all_rounds(judge, 201)), 202)
+        for call, rest in ((round_of, ("x", 1)), (heights, ()), (height, ("x",)), (reach, ((),)), (tower_above, ("x", 1)),
+                           (tower_above, ("x", 10 ** 59)), (highest_tower, ("x",)), (height_paper, ("x",))):
+            self.assertEqual(plain.refused(self, TooMany, call, judge, *rest).limit, 200)
+        with self.assertRaises(TooMany):
+            next(rounds(judge))
+        self.assertIs(is_height_paper(judge, "x", ("height", (), ())), False)
 
     def test_five_verdicts(self):
         verdicts = tuple("pqrst"[at % 5] for at in range(38)) + (None, None)
@@ -446,6 +494,18 @@ class PapersTest(unittest.TestCase):
             self.assertIs(is_height_paper(ONCE, "yes", ("height", tower, covers)), True)
         for tower in ((("b",), ("a",)), (("a",), ("b", "a")), (("a",),), ((), ("a",))):
             self.assertIs(is_height_paper(ONCE, "yes", ("height", tower, covers)), False)
+
+    def test_sets_that_are_not_closed(self):
+        # but for this, these would show that ONCE has lesser heights, and LAST another swing
+        no, yes, none = logs_with(ONCE, "no"), logs_with(ONCE, "yes"), Logs.nothing(AB)
+        empty = {"no": none, "yes": none}
+        for name, log in (("yes", ("a",)), ("no", ())):
+            self.assertIs(is_height_paper(ONCE, name, ("height", (log,), ({"no": no, "yes": yes}, empty))), False)
+            self.assertIs(is_height_paper(ONCE, name, ("height", (log,), ({"no": below(no), "yes": yes}, empty))), False)
+            self.assertIs(is_height_paper(ONCE, name, ("height", (log,), ({"no": no, "yes": below(yes)}, empty))), False)
+        for swing in (~Logs.listing(AB, ("a",)), ~Logs.listing(AB, ("b", "a"), ("a", "b"))):
+            self.assertIs(is_height_paper(LAST, "x", ("swing", swing, ("a", "a"))), False)
+            self.assertIs(is_height_paper(LAST, "y", ("swing", swing, ("b", "b"))), False)
 
     def test_random_covers(self):
         source = random.Random(65)

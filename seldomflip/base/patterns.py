@@ -6,6 +6,8 @@ from seldomflip.base.steps import both_numbers, log_behind_all, steps_to_first, 
 from seldomflip.base.ways import is_below, next_places
 from seldomflip.errors import InvalidNumber, InvalidOperation
 
+NEAR = 8
+
 
 def check_bound(k):
     """Refuses what is no integer from 0 to 200."""
@@ -91,14 +93,30 @@ def read_back(came, pair):
     return tuple(letters[::-1])
 
 
+def raise_near(places, begin, place):
+    """Raises the places, from the index begin on to a few more, up to the first one that is not less."""
+    end = min(len(places), begin + NEAR)
+    while begin < end and places[begin] < place:
+        places[begin] = place
+        begin += 1
+
+
 def first_parting(log, other, longest):
-    """The first log, of at most so many events, that is a pattern of exactly one of them, or None."""
+    """The first log, of at most so many events, that is a pattern of exactly one of them, or None.
+
+    Pairs of places in both logs stand in the order of the first logs that reach them. What goes on from
+    a pair and is a pattern of the log alone does so from each pair that is no later in the log and no
+    earlier in the other one, too. So a pair is left out if such a one stands ahead of it, and such a
+    one with the logs exchanged. They are looked for near the pair only, where most of them are.
+    """
     if log == other:
         return None
     letters = sorted(set(log + other))
     rows = next_places(log, letters)
     columns = next_places(other, letters)
-    # the first logs reach their pairs of places first, as the pairs stand in the order of logs
+    # for each place a latest one in the other log beside this place or an earlier one
+    latest = [0] * (len(log) + 1)
+    other_latest = [0] * (len(other) + 1)
     pairs = [(0, 0)]
     lengths = [0]
     came = {(0, 0): None}
@@ -109,7 +127,9 @@ def first_parting(log, other, longest):
             if (one == len(log)) != (two == len(other)):
                 return read_back(came, pair) + (letter,)
             following = (one + 1, two + 1)
-            if one < len(log) and following not in came:
+            if one < len(log) and (latest[one + 1] <= two or other_latest[two + 1] <= one):
+                raise_near(latest, one + 1, two + 1)
+                raise_near(other_latest, two + 1, one + 1)
                 came[following] = (pair, letter)
                 pairs.append(following)
                 lengths.append(lengths[at] + 1)

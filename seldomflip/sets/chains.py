@@ -5,10 +5,9 @@ from seldomflip.base.logs import MAX_EVENTS, check_events, check_letters, check_
 from seldomflip.errors import InvalidChain, InvalidOperation, TooMany
 from seldomflip.sets.atoms import is_chain_within, letters_of, place_of_rest, places_behind, reduced_chain
 from seldomflip.sets.closures import is_closed_down
-from seldomflip.sets.listings import listed_table
+from seldomflip.sets.ends import listed_above
 from seldomflip.sets.logsets import Logs, check_logs_over, check_set
 from seldomflip.sets.machines import MAX_STATES, log_of
-from seldomflip.sets.spreads import above_table
 from seldomflip.sets.tables import first_path
 from seldomflip.sets.unions import greatest_chains, least_outside, union_table
 
@@ -158,8 +157,7 @@ def avoiding(letters, logs):
     """The list of the logs in which none of the logs of the tuple occurs."""
     check_letters(letters)
     check_logs_over(letters, logs)
-    listed_rows, ends, begin = listed_table(letters, logs)
-    rows, goods = above_table(listed_rows, ends, begin, MAX_STATES)
+    rows, goods = listed_above(letters, logs, MAX_STATES)
     machine = (letters, rows, [not is_good for is_good in goods])
     return limited(greatest_chains(machine, MAX_CHAINS), MAX_CHAINS)
 

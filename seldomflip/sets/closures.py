@@ -3,6 +3,7 @@
 from seldomflip.base.logs import check_events, check_letters
 from seldomflip.base.ways import is_below, next_places
 from seldomflip.errors import InvalidOperation
+from seldomflip.sets.ends import listed_above
 from seldomflip.sets.extremes import maximal_table, minimal_table
 from seldomflip.sets.listings import listed_table
 from seldomflip.sets.logsets import Logs, check_logs_over, check_set
@@ -22,7 +23,7 @@ def above(logs):
     """The set of all logs above a log of the set."""
     check_set(logs)
     letters, rows, good = logs.machine
-    return set_of(letters, above_table(rows, good, 0, MAX_STATES))
+    return set_of(letters, above_table(rows, good, MAX_STATES))
 
 
 def below(logs):
@@ -36,8 +37,7 @@ def above_of(letters, logs):
     """The set of all logs above a log of the tuple."""
     check_letters(letters)
     check_logs_over(letters, logs)
-    rows, goods, begin = listed_table(letters, logs)
-    return set_of(letters, above_table(rows, goods, begin, MAX_STATES))
+    return set_of(letters, listed_above(letters, logs, MAX_STATES))
 
 
 def below_of(letters, logs):

@@ -55,11 +55,11 @@ class Minimal:
         self._good_mask = true_mask(goods)
         self._live = live_states(rows, goods)
         self._columns = [[1 << row[at] for row in rows] for at in range(self.width)]
-        self._matter = masks_that_matter(rows, goods, self._good_mask, self._ahead)
+        self._matter = masks_that_matter(rows, goods, self._good_mask, self._mask_ahead)
         self._rising = Rising(rows, goods)
         self.first_config = (0, 0) if self._live[0] else None
 
-    def _ahead(self, mask, at):
+    def _mask_ahead(self, mask, at):
         """The mask of the states of the mask, and of those from which the event leads to one of them."""
         return mask | image_of(mask, self._before[at])
 
@@ -99,19 +99,13 @@ class Maximal:
         falling = Falling(rows, [0])
         self.width = len(rows[0])
         self._falling = falling
-        self._before = columns_before(falling.rows)
-        self._leading = falling.leading()
         self._goods = [goods[state] for state in falling.order]
         self._good_mask = true_mask(self._goods)
         self._live = Live(falling, self._good_mask)
-        self._matter = masks_that_matter(falling.rows, self._goods, self._live.goods, self._ahead)
+        self._matter = masks_that_matter(falling.rows, self._goods, self._live.goods, falling.ahead)
         self._later = [self._mask_later(row) for row in falling.rows]
         begin = falling.place[0]
         self.first_config = self._config(begin, self._later[begin])
-
-    def _ahead(self, mask, at):
-        """The mask of the states from which the event leads to the mask, perhaps behind other ones."""
-        return image_of(image_of(mask, self._before[at]), self._leading)
 
     def _mask_later(self, row):
         """The mask of the states to which one or more events lead, by the row of the first one."""

@@ -46,7 +46,7 @@ def answers_to(tests, mask):
     return found
 
 
-def guess(spread, begin, tests, most):
+def guess(width, step, begin, tests, most):
     """One mask for each row of answers, the rows of a table of them, and pairs of masks taken to be alike."""
     masks = [begin]
     number = {answers_to(tests, begin): 0}
@@ -55,8 +55,8 @@ def guess(spread, begin, tests, most):
     while len(rows) < len(masks):
         mask = masks[len(rows)]
         row = []
-        for letter in range(spread.width):
-            following = spread.filled(spread.behind(mask, letter))
+        for letter in range(width):
+            following = step(mask, letter)
             answers = answers_to(tests, following)
             if answers not in number:
                 number[answers] = len(masks)
@@ -81,7 +81,7 @@ def filled_up(mask, rules):
     return mask
 
 
-def parted_paths(spread, alike):
+def parted_paths(spread, step, alike):
     """Paths of logs that part masks taken to be alike; none if they are indeed.
 
     If all are alike, then so are those that follow them. So it is enough that each pair that
@@ -97,8 +97,8 @@ def parted_paths(spread, alike):
         mask, other, path = pairs[at]
         at += 1
         for letter in range(spread.width):
-            one = spread.filled(spread.behind(mask, letter))
-            two = spread.filled(spread.behind(other, letter))
+            one = step(mask, letter)
+            two = step(other, letter)
             if (one & spread.goods == 0) != (two & spread.goods == 0):
                 found.append(path + (letter,))
             elif one != two and filled_up(one, rules) != filled_up(two, rules):
@@ -107,12 +107,11 @@ def parted_paths(spread, alike):
     return found
 
 
-def guessed(spread, begin, most):
+def guessed(spread, step, begin, tests, most):
     """Rows and good states of the least table of the spread; more states than the most are refused."""
-    tests, are_all = first_tests(spread)
     while True:
-        masks, rows, alike = guess(spread, begin, tests, most)
-        paths = [] if are_all else parted_paths(spread, alike)
+        masks, rows, alike = guess(spread.width, step, begin, tests, most)
+        paths = parted_paths(spread, step, alike)
         if not paths:
             return renumbered(rows, [mask & spread.goods != 0 for mask in masks], 0)
         for path in paths:

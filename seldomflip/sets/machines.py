@@ -5,7 +5,7 @@ from seldomflip.base.logs import check_events, is_any_log, is_letters
 from seldomflip.errors import InvalidLog, InvalidMachine, InvalidOperation
 from seldomflip.sets.masks import bits_of, mask_of
 from seldomflip.sets.tables import (
-    check_size, classes_of, least_table, paired, read_path, renumbered, state_after)
+    check_size, classes_of, first_path, least_table, paired, renumbered, state_after)
 
 MAX_STATES = 200
 
@@ -186,21 +186,13 @@ def alike_states(machine):
 
 def parting_path(rows, labels, others, other_labels, pair):
     """The path of the first log that leads from the pair to states with different labels, or None."""
-    if labels[pair[0]] != other_labels[pair[1]]:
-        return ()
-    came = {pair: None}
-    queue = [pair]
-    at = 0
-    while at < len(queue):
-        pair = queue[at]
-        at += 1
-        for place, following in enumerate(zip(rows[pair[0]], others[pair[1]])):
-            if following not in came:
-                came[following] = (pair, place)
-                if labels[following[0]] != other_labels[following[1]]:
-                    return read_path(came, following)
-                queue.append(following)
-    return None
+    def step(states, at):
+        return rows[states[0]][at], others[states[1]][at]
+
+    def is_parted(states):
+        return labels[states[0]] != other_labels[states[1]]
+
+    return first_path(pair, len(rows[0]), step, is_parted)
 
 
 def parting_states(machine, state, other):

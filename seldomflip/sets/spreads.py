@@ -5,12 +5,12 @@ states that add no logs to it, as far as can be seen from single states: a state
 if it is no better, and each event leads from it to a state under one to which the other one can go.
 """
 
-from seldomflip.sets.guessing import guessed
+from seldomflip.sets.guessing import first_tests, guess, guessed
 from seldomflip.sets.masks import columns_before, image_of, true_mask, united
 from seldomflip.sets.settling import settled
-from seldomflip.sets.tables import last_first, live_states, states_before
+from seldomflip.sets.tables import last_first, live_states, renumbered, states_before
 
-PATIENCE = 3000
+PATIENCE = 1000
 MORE_PATIENCE = 20000
 
 
@@ -35,9 +35,9 @@ class Rising:
         self._before = None
         self._under = None
 
-    def entry(self, state):
-        """The mask at the beginning, with one state."""
-        return self.goods if self.goods >> state & 1 else 1 << state & self._live
+    def begin_mask(self):
+        """The mask at the beginning."""
+        return self.goods if self.goods & 1 else self._live & 1
 
     def behind(self, mask, at):
         """The mask behind one event more."""
@@ -88,6 +88,8 @@ class Falling:
         self.place = {state: at for at, state in enumerate(self.order)}
         self.rows = [[self.place[following] for following in rows[state]] for state in self.order]
         self.width = len(rows[0])
+        self._leading = None
+        self._sources = {}
         self.reach = self.united([1 << state for state in range(len(self.order))])
         self._images = [self.united([self.reach[row[at]] for row in self.rows]) for at in range(self.width)]
 
@@ -97,8 +99,20 @@ class Falling:
 
     def leading(self):
         """For each state the mask of the states that lead to it."""
-        states = list(range(len(self.rows)))
-        return united(states_before(self.rows), [1 << state for state in states], states)
+        if self._leading is None:
+            states = list(range(len(self.rows)))
+            self._leading = united(states_before(self.rows), [1 << state for state in states], states)
+        return self._leading
+
+    def _sources_of(self, at):
+        """For each state the mask of those from which the letter, perhaps later, leads to it or ahead of it."""
+        if at not in self._sources:
+            leading = self.leading()
+            masks = [0 for _ in self.rows]
+            for state, row in enumerate(self.rows):
+                masks[row[at]] |= leading[state]
+            self._sources[at] = united(states_before(self.rows), masks, list(range(len(self.rows))))
+        return self._sources[at]
 
     def over(self, mask, columns):
         """The union of what the columns tell for a mask, where a state tells all that those after it tell."""
@@ -110,9 +124,23 @@ class Falling:
             mask &= ~self.reach[state]
         return found
 
+    def against(self, mask, columns):
+        """The same, where a state tells all that those tell which lead to it."""
+        leading = self.leading()
+        found = 0
+        while mask:
+            state = mask.bit_length() - 1
+            found |= columns[state]
+            mask &= ~leading[state]
+        return found
+
     def behind(self, mask, at):
         """The mask behind one event more."""
         return self.over(mask, self._images[at])
+
+    def ahead(self, mask, at):
+        """The states from which one event more leads to a mask that contains with a state all that lead to it."""
+        return self.against(mask, self._sources_of(at))
 
     def leading_to(self, mask):
         """The mask of the states that lead to one of the mask."""
@@ -126,8 +154,6 @@ class Live:
         self.width = falling.width
         self.goods = falling.leading_to(good_mask)
         self._falling = falling
-        self._before = None
-        self._leading = None
         self._under = None
 
     def behind(self, mask, at):
@@ -136,10 +162,7 @@ class Live:
 
     def ahead(self, mask, at):
         """The states from which one event more leads to a state of the mask."""
-        if self._before is None:
-            self._before = columns_before(self._falling.rows)
-            self._leading = self._falling.leading()
-        return image_of(image_of(mask, self._before[at]), self._leading) & self.goods
+        return self._falling.ahead(mask, at) & self.goods
 
     def filled(self, mask):
         """The mask with the states that add no logs to it."""
@@ -161,7 +184,6 @@ class Under:
         self._live = live
         self._before = [falling.united(columns) for columns in columns_before(rows)]
         self._out = masks_going_out(rows, live)
-        self._leading = falling.leading()
         self.masks = [0 for _ in rows]
         # for each letter and state the mask of those under one that the letter, perhaps later, leads to
         self._ahead = [[0 for _ in rows] for _ in range(falling.width)]
@@ -183,7 +205,7 @@ class Under:
             worse = 0
             for at in range(self._falling.width):
                 worse |= mask & ~(self._out[at] | self._falling.over(self._targets(states, at), self._before[at]))
-            mask &= ~self._all_leading_to(worse)
+            mask &= ~self._falling.against(worse, self._falling.leading())
 
     def _targets(self, states, at):
         """The mask of those under one that the letter, perhaps later, leads to from a group."""
@@ -200,15 +222,6 @@ class Under:
             ahead[state] = found
         return found
 
-    def _all_leading_to(self, mask):
-        """The mask of the states that lead to one of the mask, the last ones first."""
-        found = 0
-        while mask:
-            leading = self._leading[mask.bit_length() - 1]
-            found |= leading
-            mask &= ~leading
-        return found
-
 
 def least_spread(spread, begin, most):
     """Rows and good states of the least table of the logs that are good from the mask."""
@@ -220,14 +233,21 @@ def least_spread(spread, begin, most):
 
     found = settled(begin, spread.width, spread.behind, is_good, most, PATIENCE)
     if found is None:
+        # quick where there are too many states
+        tests, are_all = first_tests(spread)
+        masks, rows, _ = guess(spread.width, spread.behind, begin, tests, most)
+        if are_all:
+            return renumbered(rows, [is_good(mask) for mask in masks], 0)
         found = settled(spread.filled(begin), spread.width, step, is_good, most, MORE_PATIENCE)
-    return guessed(spread, spread.filled(begin), most) if found is None else found
+        if found is None:
+            found = guessed(spread, step, spread.filled(begin), tests, most)
+    return found
 
 
-def above_table(rows, goods, begin, most):
+def above_table(rows, goods, most):
     """Rows and good states of the least table of the logs above a good log."""
     spread = Rising(rows, goods)
-    return least_spread(spread, spread.entry(begin), most)
+    return least_spread(spread, spread.begin_mask(), most)
 
 
 def below_table(rows, goods, begin, most):

@@ -176,7 +176,8 @@ def live_states(rows, goods):
     live = list(goods)
     stack = [state for state, is_good in enumerate(goods) if is_good]
     while stack:
-        for state in before[stack.pop()]:
+        following = stack.pop()
+        for state in before[following]:
             if not live[state]:
                 live[state] = True
                 stack.append(state)

@@ -121,8 +121,10 @@ def chains_from(machine, state, lists):
     loops = tuple([letter for letter, following in zip(letters, row) if following == state])
     front = (("any", loops),) if loops else ()
     moves = [at for at, following in enumerate(row) if following != state and good[following]]
-    longer = {at: [(("maybe", letters[at]),) + chain for chain in lists[row[at]]] for at in moves}
-    whole = {at: {reduced_chain(front + chain): chain for chain in longer[at]} for at in moves}
+    whole = {}
+    for at in moves:
+        longer = [(("maybe", letters[at]),) + rest for rest in lists[row[at]]]
+        whole[at] = {reduced_chain(front + rest): rest for rest in longer}
     found = {} if moves else {front: True}
     for at in moves:
         for chain in whole[at]:
@@ -155,17 +157,17 @@ def least_outside(machine, most):
     None for more of them than the most. No state has more of them than the first one: each of them is
     also minimal ahead of a letter, with or without this letter in front.
     """
-    letters, rows, good = machine
-    paths = [[] for _ in rows]
+    _, rows, good = machine
+    paths = {}
     for state in last_first(rows, [0]):
-        if not good[state]:
-            paths[state] = [()]
-        else:
-            for at, following in enumerate(rows[state]):
-                for path in paths[following] if following != state else []:
-                    # nothing but the first event could be left out
-                    if good[state_after(rows, state, path)]:
-                        paths[state].append((at,) + path)
-        if len(paths[state]) > most:
+        found = [] if good[state] else [()]
+        for at, following in enumerate(rows[state]):
+            # what follows is done already, but for the state itself
+            for path in paths[following] if good[state] and following != state else []:
+                # nothing but the first event could be left out
+                if good[state_after(rows, state, path)]:
+                    found.append((at,) + path)
+        if len(found) > most:
             return None
+        paths[state] = found
     return paths[0]
