@@ -19,7 +19,7 @@ from seldomflip.sets.logsets import Logs
 from seldomflip.sets.machines import least
 from seldomflip.sets.settling import settled
 from seldomflip.sets.masks import true_mask
-from seldomflip.sets.spreads import Falling, Live, Rising
+from seldomflip.sets.spreads import Falling, Live, Rising, Under
 from seldomflip.sets.tables import least_table
 
 # with three states a log that is above one of two events, and of a set, has at most nine events
@@ -30,6 +30,20 @@ NO_SETS = plain.OTHERS + plain.NUMBERS + ((), ("a",), EVEN, plain.deep((), 9))
 FULL = plain.FULL
 EMPTY = Logs.nothing(AB)
 ALL = Logs.everything(AB)
+
+
+def blocks(source, many, width):
+    """Blocks in which the first letter goes round; the other letters lead to later blocks, or to no good state."""
+    begins = [0]
+    for _ in range(many):
+        begins.append(begins[-1] + source.randint(1, 3))
+    dead = begins[-1]
+    rows = []
+    for begin, end in zip(begins, begins[1:]):
+        later = [other for other in begins if other > begin]
+        for state in range(begin, end):
+            rows.append((begin if state == end - 1 else state + 1,) + tuple(source.choice(later) for _ in range(width - 1)))
+    return tuple(rows) + ((dead,) * width,), tuple(source.random() < 0.5 for _ in range(dead)) + (False,)
 
 
 def patterns_in(logs, most):
@@ -446,6 +460,19 @@ class WaysAgreeTest(unittest.TestCase):
                 rows = tuple(tuple(min(state + source.randint(1, 6), many - 1) for _ in "abc") for state in range(many - 1))
                 goods = tuple(state < many - 1 and source.random() < 0.15 for state in range(many))
                 self.check(*least_table(rows + ((many - 1,) * 3,), goods, 0, many))
+
+    def test_sets_with_loops(self):
+        source = random.Random(29)
+        for _ in range(120):
+            rows, goods = blocks(source, source.randint(2, 4), source.randint(2, 4))
+            rows, goods = least_table(rows, goods, 0, 200)
+            self.check(rows, goods)
+            falling = Falling(rows, [0])
+            live = Live(falling, true_mask([goods[state] for state in falling.order]))
+            under = Under(falling, live.goods).masks
+            for state, mask in enumerate(under):
+                if live.goods >> state & 1:
+                    self.assertEqual(mask & falling.reach[state] & live.goods, falling.reach[state] & live.goods)
 
     def test_hard_sets(self):
         # with these there are more than 20000 different masks that are not filled

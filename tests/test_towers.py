@@ -2,12 +2,14 @@
 
 import random
 import unittest
+from unittest import mock
 
 import plain
 from plain import AB, FREE, LAST, NO_JUDGES, ONCE, THREE, TURNS, label
 from seldomflip.errors import InvalidJudge, InvalidLog, InvalidNumber, InvalidOperation, TooMany, Unlimited, UnknownName
 from seldomflip.judges.histories import fewest_flips, kept
 from seldomflip.judges.judges import behind, logs_with, make_judge_by, verdicts_of
+from seldomflip.sets import guessing, spreads
 from seldomflip.sets.closures import below, is_closed_down
 from seldomflip.sets.logsets import Logs
 from seldomflip.towers.rounds import all_rounds
@@ -30,6 +32,15 @@ WIDER = (("a", "b", "c"), (
     (20, 22, 20), (22, 22, 22), (19, 19, 19), (21, 21, 21), (21, 21, 21)), (
     None, None, None, "y", "x", "y", None, "y", "y", None, "x", "x", None, "x", None, "y", "y", "x", None, None, "x", "y",
     None))
+
+# its rounds are found by way of masks that are filled
+LOOPS = (("a", "b", "c", "d"), ((2, 2, 1, 0), (1, 2, 1, 2), (4, 3, 3, 3), (4, 5, 4, 3), (4, 6, 6, 6), (7, 5, 7, 5),
+    (8, 6, 6, 7), (8, 8, 7, 7), (9, 9, 9, 9), (9, 9, 9, 11), (11, 11, 11, 11), (13, 12, 12, 11), (14, 12, 13, 13),
+    (14, 15, 14, 13), (14, 15, 13, 15), (16, 17, 16, 16), (16, 18, 17, 17), (18, 17, 19, 18), (19, 18, 20, 20), (20,
+    19, 19, 20), (21, 21, 22, 21), (22, 20, 23, 23), (22, 24, 22, 24), (25, 25, 25, 24), (24, 26, 24, 25), (25, 25,
+    26, 27), (27, 28, 27, 28), (27, 28, 27, 28), (29, 29, 29, 29), (29, 29, 29, 29)), (None, "v", None, None, None,
+    None, None, "x", "x", None, "y", "v", "x", "x", None, "x", "x", "v", None, None, None, None, "z", "v", "y", "x",
+    None, "y", "x", "v"))
 
 
 def chain_judge(many):
@@ -219,6 +230,18 @@ class RoundsTest(unittest.TestCase):
         self.assertEqual(highest_tower(judge, "q"), tuple(("a",) * many for many in range(1, 40)))
         one = plain.some_machines(64, 1, "ab", 1, ("p",))[0]
         self.assertEqual([heights(one), len(list(rounds(one)))], [{"p": 1}, 2])
+
+    def test_each_way_alone(self):
+        # with patience for all masks none of them is filled
+        with mock.patch.object(spreads, "PATIENCE", 10 ** 9):
+            wanted = list(rounds(LOOPS))
+        self.assertEqual(list(rounds(LOOPS)), wanted)
+        for judge in SMALL[::7]:
+            wanted = list(rounds(judge))
+            with mock.patch.object(spreads, "PATIENCE", 1), mock.patch.object(guessing, "MANY_TESTS", 1):
+                self.assertEqual(list(rounds(judge)), wanted)
+                with mock.patch.object(spreads, "MORE_PATIENCE", 1):
+                    self.assertEqual(list(rounds(judge)), wanted)
 
     def test_many_rounds(self):
         # forty rounds come before the first one at rest

@@ -157,7 +157,7 @@ def straightening(log, k):
     may_turn = turn_places(log, k)
     events = list(log)
     taken = []
-    for end in range(1, len(events)):
+    for end in range(1, len(log)):
         at = end - 1
         while at >= 0 and may_turn[at] and events[at] > events[at + 1]:
             taken.append(("turn", at))

@@ -165,8 +165,7 @@ class Logs:
         return isinstance(other, Logs) and self._machine == other._machine
 
     def __str__(self):
-        names = ", ".join(self._machine[0])
-        return f"logs over {names}: {len(self._machine[1])} states"
+        return f"logs over {', '.join(self._machine[0])}: {len(self._machine[1])} states"
 
     def __call__(self, log):
         """The set of the logs that can stand behind this one."""

@@ -5,7 +5,7 @@ states that add no logs to it, as far as can be seen from single states: a state
 if it is no better, and each event leads from it to a state under one to which the other one can go.
 """
 
-from seldomflip.sets.guessing import first_tests, guess, guessed
+from seldomflip.sets.guessing import first_tests, guess, guessed, more_tests
 from seldomflip.sets.masks import columns_before, image_of, true_mask, united
 from seldomflip.sets.settling import settled
 from seldomflip.sets.tables import last_first, live_states, renumbered, states_before
@@ -185,42 +185,56 @@ class Under:
         self._before = [falling.united(columns) for columns in columns_before(rows)]
         self._out = masks_going_out(rows, live)
         self.masks = [0 for _ in rows]
-        # for each letter and state the mask of those under one that the letter, perhaps later, leads to
+        # for each letter and state the mask of those from which the letter leads to one under the state
+        self._fitting = [{} for _ in range(falling.width)]
+        # the same for the states to which the letter, perhaps later, leads from the state
         self._ahead = [[0 for _ in rows] for _ in range(falling.width)]
         groups = {}
-        for state in reversed(range(len(rows))):
+        for state in range(len(rows)):
             groups.setdefault(falling.reach[state], []).append(state)
-        # the states of a group lead to one another, those of later groups lead to them
-        for reached in groups:
+        # the states of a group lead to one another; a group whose first state is later leads to none before it
+        for reached in list(groups)[::-1]:
             if reached & live:
                 self._settle(groups[reached])
 
     def _settle(self, states):
         """Finds the mask of the states of a group, from the greatest one on."""
+        inside = {state: True for state in states}
+        letters = range(self._falling.width)
+        fixed = [self._out[at] | self._settled_ahead(states, inside, at) for at in letters]
+        is_inner = [any([self._falling.rows[state][at] in inside for state in states]) for at in letters]
         mask = self._live
         worse = mask
         while worse:
-            for state in states:
-                self.masks[state] = mask
             worse = 0
-            for at in range(self._falling.width):
-                worse |= mask & ~(self._out[at] | self._falling.over(self._targets(states, at), self._before[at]))
+            whole = list(fixed)
+            for at in letters:
+                if is_inner[at]:
+                    whole[at] |= self._falling.over(mask, self._before[at])
+                worse |= mask & ~whole[at]
             mask &= ~self._falling.against(worse, self._falling.leading())
+        for state in states:
+            self.masks[state] = mask
+            for at in letters:
+                self._ahead[at][state] = whole[at]
 
-    def _targets(self, states, at):
-        """The mask of those under one that the letter, perhaps later, leads to from a group."""
-        rows = self._falling.rows
-        reach = self._falling.reach
-        ahead = self._ahead[at]
+    def _settled_ahead(self, states, inside, at):
+        """The mask of those that fit to where the letter, perhaps later, leads from a group and out of it."""
         found = 0
         for state in states:
-            found |= self.masks[rows[state][at]]
-            for following in rows[state]:
-                if reach[following] != reach[state]:
-                    found |= ahead[following]
-        for state in states:
-            ahead[state] = found
+            row = self._falling.rows[state]
+            if row[at] not in inside:
+                found |= self._fitting_to(row[at], at)
+            for following in row:
+                if following not in inside:
+                    found |= self._ahead[at][following]
         return found
+
+    def _fitting_to(self, state, at):
+        """The mask of the states from which the letter leads to one under this state."""
+        if state not in self._fitting[at]:
+            self._fitting[at][state] = self._falling.over(self.masks[state], self._before[at])
+        return self._fitting[at][state]
 
 
 def least_spread(spread, begin, most):
@@ -235,6 +249,7 @@ def least_spread(spread, begin, most):
     if found is None:
         # quick where there are too many states
         tests, are_all = first_tests(spread)
+        tests = tests if are_all else more_tests(spread, tests)
         masks, rows, _ = guess(spread.width, spread.behind, begin, tests, most)
         if are_all:
             return renumbered(rows, [is_good(mask) for mask in masks], 0)
