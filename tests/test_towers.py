@@ -10,7 +10,7 @@ from seldomflip.errors import InvalidJudge, InvalidLog, InvalidNumber, InvalidOp
 from seldomflip.judges.histories import fewest_flips, kept
 from seldomflip.judges.judges import behind, logs_with, make_judge_by, verdicts_of
 from seldomflip.sets import guessing, spreads
-from seldomflip.sets.closures import below, is_closed_down
+from seldomflip.sets.closures import below, inside_down, is_closed_down
 from seldomflip.sets.logsets import Logs
 from seldomflip.towers.rounds import all_rounds
 from seldomflip.towers.towers import (
@@ -476,9 +476,11 @@ class PapersTest(unittest.TestCase):
         # less than what a round contains is no cover, and neither are fewer or more covers
         for at in range(len(covers)):
             for name in covers[at]:
-                if found[at][name] and found[at][name] == covers[at][name]:
-                    less = changed_covers(covers, at, name, Logs.nothing(judge[0]))
-                    self.assertIs(is_height_paper(judge, verdict, ("height", tower, less)), False)
+                if found[at][name] == covers[at][name]:
+                    for log in found[at][name].listed(longest=2):
+                        fewer = inside_down(found[at][name] - Logs.listing(judge[0], log))
+                        less = changed_covers(covers, at, name, fewer)
+                        self.assertIs(is_height_paper(judge, verdict, ("height", tower, less)), False)
         for wrong in (covers[:-1], covers[1:], covers + covers[-1:], (), covers[:1] + covers):
             self.assertIs(is_height_paper(judge, verdict, ("height", tower, wrong)), False)
         for wrong in (tower[:-1], tower[1:], tower + tower[-1:], ()):

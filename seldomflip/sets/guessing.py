@@ -8,7 +8,7 @@ from seldomflip.sets.tables import check_size, renumbered
 
 MANY_TESTS = 1000
 MANY_SHORT = 300
-MANY_WALKS = 6
+MANY_WALKS = 8
 LONGEST_WALK = 200
 MANY_PARTED = 20
 
@@ -32,17 +32,15 @@ def first_tests(spread):
 def more_tests(spread, tests):
     """Some of the first tests, and those for some long logs.
 
-    Masks that are far from all good states are parted by long logs only. Which logs these are does
-    not matter, so their events are taken from numbers without an order that one could see.
+    Masks that are far from all good states are parted by long logs only. Any logs will do, as long as
+    they are unlike one another: squares of the positions tell their events.
     """
     found = tests[:MANY_SHORT]
     known = {test: True for test in found}
-    number = 1
-    for _ in range(MANY_WALKS):
+    for walk in range(MANY_WALKS):
         test = spread.goods
-        for _ in range(LONGEST_WALK):
-            number = (number * 1103515245 + 12345) % 2147483648
-            test = spread.ahead(test, (number >> 16) % spread.width)
+        for step in range(LONGEST_WALK):
+            test = spread.ahead(test, step * step * (walk + 2) // 5 % spread.width)
             if test and test not in known:
                 known[test] = True
                 found.append(test)
