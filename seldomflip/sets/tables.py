@@ -54,7 +54,9 @@ def classes_of(rows, labels, most):
     for label in labels:
         names.setdefault(label, len(names))
     classes = [names[label] for label in labels]
-    sizes = [classes.count(name) for name in range(len(names))]
+    sizes = [0 for _ in names]
+    for name in classes:
+        sizes[name] = sizes[name] + 1
     before = states_before(rows)
     moved = list(range(len(rows)))
     while moved:
@@ -155,7 +157,9 @@ def last_first(rows, begins):
     order = []
     known = {}
     for begin in begins:
-        stack = [] if begin in known else [(begin, 0)]
+        stack = [(begin, 0)]
+        if begin in known:
+            stack = []
         known[begin] = True
         while stack:
             state, at = stack.pop()
