@@ -1,6 +1,6 @@
 """What plain values are: integers, names, rows in order."""
 
-from seldomflip.errors import InvalidNumber
+from seldomflip.errors import InvalidNumber, NothingToUndo
 
 MAX_SIGNS = 8
 
@@ -26,3 +26,11 @@ def check_number(value, least, most):
     """Refuses what is no integer from the least to the most."""
     if not is_whole(value) or not least <= value <= most:
         raise InvalidNumber(value)
+
+
+def check_many(value, most):
+    """Refuses what is no integer of at least 0, and more steps than can be undone."""
+    if not is_whole(value) or value < 0:
+        raise InvalidNumber(value)
+    if value > most:
+        raise NothingToUndo(value)

@@ -1,9 +1,9 @@
 """Histories, answers to them, and the keeping answerer."""
 
-from seldomflip.base.checks import check_number, is_name, is_whole
+from seldomflip.base.checks import check_many, check_number, is_name
 from seldomflip.base.logs import MAX_EVENTS, check_history_size, is_history
 from seldomflip.base.ways import is_below
-from seldomflip.errors import InvalidHistory, InvalidLog, InvalidNumber, InvalidOperation, NothingToUndo, UnknownName
+from seldomflip.errors import InvalidHistory, InvalidLog, InvalidOperation, UnknownName
 from seldomflip.judges.judges import check_judge
 from seldomflip.sets.machines import check_log_over, label_of
 
@@ -186,10 +186,7 @@ class Keeper:
 
     def back(self, many=1):
         """Takes back the last logs, so many of them, and returns how many are left behind the first one."""
-        if not is_whole(many) or many < 0:
-            raise InvalidNumber(many)
-        if many > len(self._logs):
-            raise NothingToUndo(many)
+        check_many(many, len(self._logs))
         left = len(self._logs) - many
         self._logs = self._logs[:left]
         self._answers = self._answers[:left + 1]

@@ -37,10 +37,10 @@ def more_tests(spread, tests):
     """
     found = tests[:MANY_SHORT]
     known = {test: True for test in found}
-    for walk in range(MANY_WALKS):
+    for turn in range(MANY_WALKS):
         test = spread.goods
         for step in range(LONGEST_WALK):
-            test = spread.ahead(test, step * step * (walk + 2) // 5 % spread.width)
+            test = spread.ahead(test, step * step * (turn + 2) // 5 % spread.width)
             if test and test not in known:
                 known[test] = True
                 found.append(test)

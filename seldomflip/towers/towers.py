@@ -131,26 +131,31 @@ def path_above(judge, low, allowed, table, spare):
     return None
 
 
-def next_path(judge, found, low, allowed, number):
-    """The path of the first log above a path with which a tower of this height and an allowed verdict begins.
+def path_inside(judge, low, choices):
+    """The path of the first log above a path that has an allowed verdict and is in the set, by one of some choices.
 
     There must be one. With few events to spare few logs must be gone through, and the first log of
     all is among them as soon as there is one.
     """
-    _, rows, _ = judge
     spare = 1
     while True:
-        if number == 1:
-            everything = (((0,) * len(rows[0]),), (True,))
-            paths = [path_above(judge, low, allowed, everything, spare)]
-        else:
-            tables = round_at(found, number - 1)
-            paths = [path_above(judge, low, [one for one in allowed if one != name], tables[name], spare)
-                     for name in tables]
+        paths = [path_above(judge, low, allowed, table, spare) for allowed, table in choices]
         lengths = [(len(path), path) for path in paths if path is not None]
         if lengths:
             return min(lengths)[1]
         spare = 2 * spare
+
+
+def next_path(judge, found, low, allowed, number):
+    """The path of the first log above a path with which a tower of this height and an allowed verdict begins.
+
+    There must be one.
+    """
+    if number == 1:
+        everything = (((0,) * len(judge[0]),), (True,))
+        return path_inside(judge, low, [(allowed, everything)])
+    tables = round_at(found, number - 1)
+    return path_inside(judge, low, [([one for one in allowed if one != name], tables[name]) for name in tables])
 
 
 def tower_of(judge, found, verdict, number, low):

@@ -1,0 +1,1 @@
+"""Rules about patterns, and their judges."""
