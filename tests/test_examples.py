@@ -6,8 +6,10 @@ from pathlib import Path
 
 from seldomflip.base import logs, patterns
 from seldomflip.judges import histories, judges
+from seldomflip.judges import plain as answerers
+from seldomflip.rules import rules
 from seldomflip.sets import chains, closures, logsets, machines
-from seldomflip.towers import towers
+from seldomflip.towers import ladders, swings, towers
 
 STAGE_1 = """
 >>> [first_places(("a", "b"), ("a", "b", "a", "b")), first_above(("a", "b"), ("b", "a")), list(shrinkings(("a", "a", "b"))), minimal_of((("a", "b"), ("b",)))]
@@ -92,6 +94,39 @@ STAGE_9 = """
 [(('a',), ('a', 'a')), (('a',), ('a', 'b'), ('a', 'b', 'a')), (('a', 'b', 'b'),)]
 """
 
+STAGE_10 = """
+>>> [number(ONCE), best_firsts(ONCE), number(LAST), number_paper(LAST)[0], is_number_paper(ONCE, number_paper(ONCE))]
+[2, ('no',), None, 'swing', True]
+>>> [len(greatest_swing(LAST)), [one for turn, one in zip(range(3), walk(LAST, greatest_swing(LAST)))]]
+[1, [('a',), ('a', 'b'), ('a', 'b', 'a')]]
+>>> [Rival(ONCE).play(lambda past: "no"), len(Rival(LAST).play(lambda past: verdict_of(LAST, past[-1]) or "x", most=3)[0])]
+[(((), ('a',)), ('no', 'no')), 4]
+"""
+
+STAGE_11 = """
+>>> steps = least_ladder(ONCE, "no", "yes")
+>>> [str(steps), [minimal(one).first() for one in steps.rungs], steps(("b", "a")), climb(ONCE, steps, ("a", "b", "a"))]
+['ladder from no to yes: 2 rungs', [('a',), ('a', 'a')], 'yes', (('a',), ('a', 'a'))]
+"""
+
+STAGE_12 = """
+>>> A = ("occurs", ("a",))
+>>> TWICE = ("occurs", ("a", "a"))
+>>> once = ("and", A, ("not", TWICE))
+>>> [rule_judge(("a", "b"), once) == least_judge(ONCE), normal(("a", "b"), ("not", ("or", TWICE, ("not", A)))) == once]
+[True, True]
+>>> [first_unlike(("a", "b"), once, A), implies(("a", "b"), once, A), normal(("a",), ("or", A, ("not", A)))]
+[('a', 'a'), True, ('occurs', ())]
+"""
+
+STAGE_13 = """
+>>> PAIRS = ((), ("a",), ("b",), ("c",), ("a", "a"), ("a", "b"), ("a", "c"), ("b", "c"))
+>>> [number(THREE), worst_flips(best_filling(THREE)), is_knot(THREE, PAIRS, most=1), shrunk_knot(THREE, PAIRS, most=1) == PAIRS[:4] + PAIRS[5:]]
+[1, 2, True, True]
+>>> [least_table(THREE, ((), ("b",))), table_flips(THREE, ((), ("b",)), {(): "p", ("b",): "q"}), is_plain(THREE, best_filling(THREE))]
+[{(): 'q', ('b',): 'q'}, 1, True]
+"""
+
 
 class ExamplesTest(unittest.TestCase):
 
@@ -128,9 +163,21 @@ class ExamplesTest(unittest.TestCase):
     def test_stage_9(self):
         self.run_text(VALUES + STAGE_9, vars(towers), 6)
 
+    def test_stage_10(self):
+        self.run_text(VALUES + STAGE_10, {**vars(swings), "verdict_of": judges.verdict_of}, 7)
+
+    def test_stage_11(self):
+        self.run_text(VALUES + STAGE_11, {**vars(ladders), "minimal": closures.minimal}, 6)
+
+    def test_stage_12(self):
+        self.run_text(VALUES + STAGE_12, {**vars(rules), "least_judge": judges.least_judge}, 9)
+
+    def test_stage_13(self):
+        self.run_text(VALUES + STAGE_13, {**vars(answerers), "number": swings.number}, 7)
+
     def test_readme(self):
         text = (Path(__file__).resolve().parent.parent / "README.md").read_text()
-        self.run_text(text.replace("```", ""), {}, 29)
+        self.run_text(text.replace("```", ""), {}, 39)
 
 
 if __name__ == "__main__":

@@ -6,10 +6,13 @@ import re
 import unittest
 from pathlib import Path
 
+from seldomflip import errors
 from seldomflip.base import logs, patterns
 from seldomflip.judges import histories, judges
+from seldomflip.judges import plain as answerers
+from seldomflip.rules import rules
 from seldomflip.sets import chains, closures, logsets, machines
-from seldomflip.towers import towers
+from seldomflip.towers import ladders, swings, towers
 
 PACKAGE = Path(__file__).resolve().parent.parent / "seldomflip"
 STAGE_1 = """is_letters(value), make_letters(*names), is_log(letters, value), sorted_logs(logs), occurs(log, other),
@@ -42,6 +45,18 @@ during(self, logs, call), branch(self)"""
 STAGE_9 = """is_tower(judge, value), rounds(judge), round_of(judge, verdict, number), heights(judge),
 height(judge, verdict), reach(judge, log), tower_above(judge, verdict, number, *, start=()),
 highest_tower(judge, verdict), height_paper(judge, verdict), is_height_paper(judge, verdict, value)"""
+STAGE_10 = """is_swing(judge, value), greatest_swing(judge), walk(judge, swing, *, start=()), number(judge),
+best_firsts(judge), number_paper(judge), is_number_paper(judge, value)"""
+RIVAL = """(judge), next(self, answer), play(self, answers, *, most=10), back(self, many=1)"""
+LADDER = """(letters, first, other, rungs), listing(letters, first, other, lists), as_judge(self), rung(self, log),
+exchanged(self)"""
+STAGE_11 = """least_ladder(judge, first, other), is_least(judge, ladder), first_wrong(judge, ladder), climb(judge, ladder, log)"""
+STAGE_12 = """is_rule(letters, value), holds(letters, rule, log), patterns_of(letters, rule), rule_logs(letters, rule),
+rule_judge(letters, rule), rule_ladder(letters, rule), normal(letters, rule), rule_for(logs),
+first_unlike(letters, rule, other), implies(letters, rule, other)"""
+STAGE_13 = """is_plain(judge, value), worst_flips(answerer), worst_history(answerer), fillings(judge), best_filling(judge),
+is_table(judge, logs, value), table_flips(judge, logs, table), least_table(judge, logs), is_knot(judge, value, *, most),
+shrunk_knot(judge, logs, *, most)"""
 NO_WORDS = ("type", "typing", "enum", "eval", "exec", "open", "input", "elements", "law", "register", "mro")
 
 
@@ -72,13 +87,20 @@ class InterfaceTest(unittest.TestCase):
         self.check(judges, STAGE_7)
         self.check(histories, STAGE_8)
         self.check(towers, STAGE_9)
+        self.check(swings, STAGE_10)
+        self.check(ladders, STAGE_11)
+        self.check(rules, STAGE_12)
+        self.check(answerers, STAGE_13)
 
     def test_constants(self):
         self.assertEqual([logs.MAX_EVENTS, machines.MAX_STATES, chains.MAX_ATOMS, chains.MAX_CHAINS], [200, 200, 400, 100])
         self.assertEqual([judges.MAX_STATES, judges.MAX_VERDICTS, histories.MAX_HISTORY, towers.MAX_ROUNDS], [40, 5, 200, 200])
+        self.assertEqual([ladders.MAX_RUNGS, rules.MAX_PATTERNS, rules.MAX_DEPTH, rules.MAX_STANDS], [200, 40, 20, 5000])
+        self.assertEqual([answerers.MAX_LOGS, answerers.MAX_FILLINGS], [12, 1000])
 
     def test_generators(self):
-        for call in (logs.growths, logs.shrinkings, logs.Growth.steps, patterns.patterns, logsets.Logs.listed, towers.rounds):
+        for call in (logs.growths, logs.shrinkings, logs.Growth.steps, patterns.patterns, logsets.Logs.listed, towers.rounds,
+                     swings.walk, answerers.fillings):
             self.assertTrue(inspect.isgeneratorfunction(call))
 
     def test_growth(self):
@@ -110,6 +132,12 @@ class InterfaceTest(unittest.TestCase):
 
     def test_keeper(self):
         self.check_class(histories.Keeper, KEEPER, (), "judge log answer flips history answers", "len bool call contains eq str")
+
+    def test_rival(self):
+        self.check_class(swings.Rival, RIVAL, (), "history answers left", "len str")
+
+    def test_ladder(self):
+        self.check_class(ladders.Ladder, LADDER, ("listing",), "letters first_answer other_answer rungs", "call len eq str")
 
 
 class FilesTest(unittest.TestCase):
@@ -159,7 +187,13 @@ class FilesTest(unittest.TestCase):
             for node in ast.walk(tree):
                 for word in (getattr(node, "id", None), getattr(node, "attr", None), getattr(node, "arg", None)):
                     self.assertNotIn(word, NO_WORDS, name)
-                self.assertNotIsInstance(node, (ast.Try, ast.Global, ast.Set, ast.GeneratorExp, ast.Lambda), name)
+                self.assertNotIsInstance(node, (ast.Global, ast.Set, ast.GeneratorExp, ast.Lambda), name)
+
+    def test_only_own_errors_are_caught(self):
+        for name, tree in trees():
+            for node in ast.walk(tree):
+                if isinstance(node, ast.ExceptHandler):
+                    self.assertIn(node.type.id, vars(errors), name)
 
     def test_names_of_generators_are_used_once(self):
         makers, others = [], []

@@ -5,12 +5,18 @@ import unittest
 import plain
 from plain import AB, EVEN, LAST, ONCE, PLAIN
 from seldomflip.errors import (
-    InvalidChain, InvalidHistory, InvalidJudge, InvalidLetters, InvalidLog, InvalidMachine, InvalidNumber,
-    InvalidOperation, UnknownName)
+    InvalidChain, InvalidHistory, InvalidJudge, InvalidLadder, InvalidLetters, InvalidLog, InvalidMachine, InvalidNumber,
+    InvalidOperation, InvalidRule, UnknownName)
 from seldomflip.judges import histories, judges
+from seldomflip.judges import plain as answerers
+from seldomflip.rules import rules
 from seldomflip.sets import chains, closures, machines
 from seldomflip.sets.logsets import Logs
-from seldomflip.towers import towers
+from seldomflip.towers import ladders, swings, towers
+from test_plain_answers import NO_TUPLES as NO_LOG_TUPLES
+from test_plain_answers import PAIRS
+from test_ladders import NO_LADDERS, NO_RUNGS
+from test_rules import NO_RULES, occurs
 
 NO_SETS = plain.OTHERS + plain.NUMBERS + ((), ("a",), EVEN, ONCE, plain.deep((), 9))
 NO_TUPLES = plain.OTHERS + plain.NUMBERS + plain.SETS + ([("a",)], {(): ()})
@@ -47,6 +53,14 @@ NAMES = (InvalidOperation, None, plain.OTHERS[:11] + plain.OTHERS[13:] + plain.N
 HISTORY = (InvalidHistory, None, plain.OTHERS + plain.NUMBERS + plain.SETS + (
     (), ("a",), ((), ("b",), ("a",)), (("a",),), ((), ["a"]), [()], ((), ("c",)), ((), None), ((),) * 201, ((), plain.TOO_LONG)))
 ANSWERS = (InvalidOperation, None, plain.OTHERS + plain.NUMBERS + plain.SETS + ((), ("A",), ("no", 1), ["no"], ("no", None)))
+
+NO_PLAIN = (InvalidOperation, None, (LAST, plain.FREE, plain.THREE))
+SWING = (InvalidOperation, None, NO_SETS + (Logs.nothing(AB), Logs.sized(AB, most=1), Logs.everything(("a",))))
+RULE = (InvalidRule, None, NO_RULES)
+LADDER = (InvalidLadder, None, NO_LADDERS)
+UP_TO_60 = (InvalidNumber, "value", plain.NO_NUMBERS + plain.SETS + (61, -1, 10 ** 59, -(10 ** 59)))
+FEW_LOGS = (InvalidLog, None, NO_LOG_TUPLES)
+TABLE = (InvalidOperation, None, plain.OTHERS + plain.NUMBERS + plain.SETS + ((), {(): "no"}, {("a",): "no"}))
 
 AS = Logs.sized(AB, least=1)
 DOWN = Logs.sized(AB, most=1)
@@ -117,7 +131,31 @@ CALLS = (
        (towers.is_tower, (None, ONCE, JUDGE), (None, (("a",),), None)),
        (towers.round_of, (None, ONCE, JUDGE), (None, "no", VERDICT), (None, 1, AT_LEAST_1)),
        (towers.tower_above, (None, ONCE, JUDGE), (None, "no", VERDICT), (None, 1, AT_LEAST_1), ("start", (), LOG)),
-       (towers.is_height_paper, (None, ONCE, JUDGE), (None, "no", VERDICT), (None, ("height", (), ()), None))])
+       (towers.is_height_paper, (None, ONCE, JUDGE), (None, "no", VERDICT), (None, ("height", (), ()), None))]
+    + [(call, (None, ONCE, JUDGE)) for call in (
+        swings.greatest_swing, swings.number, swings.best_firsts, swings.number_paper, lambda judge: str(swings.Rival(judge)), answerers.worst_flips,
+        answerers.worst_history, call_first(answerers.fillings), answerers.best_filling)]
+    + [(call, (None, ONCE, NO_PLAIN)) for call in (answerers.worst_flips, answerers.worst_history)]
+    + [(call, (None, ONCE, JUDGE), (None, (), None)) for call in (
+        swings.is_swing, swings.is_number_paper, answerers.is_plain)]
+    + [(call, (None, AB, LETTERS), (None, occurs("ab"), RULE)) for call in (
+        rules.patterns_of, rules.rule_logs, rules.rule_judge, rules.rule_ladder, rules.normal)]
+    + [(call, (None, AB, LETTERS), (None, occurs("ab"), RULE), (None, occurs("b"), RULE)) for call in (
+        rules.first_unlike, rules.implies)]
+    + [(call, (None, ONCE, JUDGE), (None, ladders.least_ladder(ONCE, "no", "yes"), LADDER)) for call in (
+        ladders.is_least, ladders.first_wrong)]
+    + [(call_first(swings.walk), (None, LAST, JUDGE), (None, Logs.everything(AB), SWING), ("start", ("b",), LOG)),
+       (ladders.climb, (None, ONCE, JUDGE), (None, ladders.least_ladder(ONCE, "no", "yes"), LADDER), (None, ("a",), LOG)),
+       (ladders.least_ladder, (None, ONCE, JUDGE), (None, "no", NAME), (None, "yes", NAME)),
+       (ladders.Ladder, (None, AB, LETTERS), (None, "no", (InvalidLadder, None, NO_NAMES + (None,))),
+        (None, "yes", (InvalidLadder, None, NO_NAMES + (None, "no"))), (None, (), (InvalidLadder, None, NO_RUNGS))),
+       (rules.is_rule, (None, AB, LETTERS), (None, (), None)), (rules.rule_for, (None, AS, SET)),
+       (rules.holds, (None, AB, LETTERS), (None, occurs("ab"), RULE), (None, ("a",), LOG)),
+       (answerers.is_table, (None, ONCE, JUDGE), (None, PAIRS[:3], FEW_LOGS), (None, {}, None)),
+       (answerers.table_flips, (None, ONCE, JUDGE), (None, PAIRS[:2], FEW_LOGS), (None, {(): "no", ("a",): "yes"}, TABLE)),
+       (answerers.least_table, (None, ONCE, JUDGE), (None, PAIRS[:3], FEW_LOGS)),
+       (answerers.is_knot, (None, ONCE, JUDGE), (None, PAIRS[:2], None), ("most", 3, UP_TO_60)),
+       (answerers.shrunk_knot, (None, ONCE, JUDGE), (None, ((), ("a",), ("a", "a")), FEW_LOGS), ("most", 1, UP_TO_60))])
 
 
 class WrongArgumentsTest(unittest.TestCase):

@@ -155,7 +155,7 @@ def least_table(judge, logs):
     while found is None:
         most += 1
         found = first_filling(below, choices, len(verdicts), most)
-    return {log: verdicts[place] for log, place in zip(row, found)}
+    return {log: verdicts[place] for log, place in sorted(list(zip(row, found)))}
 
 
 def is_knot_of(judge, logs, most):
