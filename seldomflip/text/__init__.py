@@ -1,0 +1,1 @@
+"""Texts for values, and a shell of commands."""
