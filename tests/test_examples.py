@@ -7,8 +7,10 @@ from pathlib import Path
 from seldomflip.base import logs, patterns
 from seldomflip.judges import histories, judges
 from seldomflip.judges import plain as answerers
+from seldomflip.late import closing, monitors
 from seldomflip.rules import rules
 from seldomflip.sets import chains, closures, logsets, machines
+from seldomflip.text import formats, shell
 from seldomflip.towers import ladders, swings, towers
 
 STAGE_1 = """
@@ -127,6 +129,28 @@ STAGE_13 = """
 [{(): 'q', ('b',): 'q'}, 1, True]
 """
 
+STAGE_14 = """
+>>> [flips_left(ONCE, (), (), "no"), flips_left(ONCE, (), ("a",), "yes"), turning(ONCE, (), ("b",), "no"), possible(ONCE, ("a", "a"), ())]
+[2, 1, ('a', 'b'), ('no',)]
+>>> [closing_paper(ONCE, ("a",), ("a",), "no")[1], settled_logs(ONCE, "no").first(), closing_paper(LAST, (), (), "x")[0]]
+[(), ('a', 'a'), 'swing']
+"""
+
+STAGE_15 = """
+>>> late = Monitor(ONCE)
+>>> [late.tell(5, "b"), late.tell(3, "a"), late.flips, late.flips_left(), str(late)]
+['no', 'yes', 1, 1, '-|a.b: yes, 1 flips']
+>>> [late.close(4), late.closed, late.late, len(late.turning()), late(9, "a"), late.is_settled()]
+[1, ('a',), ('b',), 1, 'no', False]
+"""
+
+STAGE_16 = """
+>>> [format_log(("a", "b")), parse_log(("a", "b"), "-"), format_history(((), ("a",)))]
+['a.b', (), '- < a']
+>>> list(Shell().run_all(("rule once a b : a & !a.a", "ladder once no", "monitor late once", "tell late 5 a", "ask late")))
+['ok', 'ladder no yes / yes if a / no if a.a', 'ok', 'ok', 'yes, 1 flips, 1 left']
+"""
+
 
 class ExamplesTest(unittest.TestCase):
 
@@ -175,9 +199,18 @@ class ExamplesTest(unittest.TestCase):
     def test_stage_13(self):
         self.run_text(VALUES + STAGE_13, {**vars(answerers), "number": swings.number}, 7)
 
+    def test_stage_14(self):
+        self.run_text(VALUES + STAGE_14, vars(closing), 6)
+
+    def test_stage_15(self):
+        self.run_text(VALUES + STAGE_15, vars(monitors), 7)
+
+    def test_stage_16(self):
+        self.run_text(STAGE_16, {**vars(formats), **vars(shell)}, 2)
+
     def test_readme(self):
         text = (Path(__file__).resolve().parent.parent / "README.md").read_text()
-        self.run_text(text.replace("```", ""), {}, 39)
+        self.run_text(text.replace("```", ""), {}, 46)
 
 
 if __name__ == "__main__":

@@ -10,8 +10,10 @@ from seldomflip import errors
 from seldomflip.base import logs, patterns
 from seldomflip.judges import histories, judges
 from seldomflip.judges import plain as answerers
+from seldomflip.late import closing, monitors
 from seldomflip.rules import rules
 from seldomflip.sets import chains, closures, logsets, machines
+from seldomflip.text import formats, shell
 from seldomflip.towers import ladders, swings, towers
 
 PACKAGE = Path(__file__).resolve().parent.parent / "seldomflip"
@@ -57,6 +59,16 @@ first_unlike(letters, rule, other), implies(letters, rule, other)"""
 STAGE_13 = """is_plain(judge, value), worst_flips(answerer), worst_history(answerer), fillings(judge), best_filling(judge),
 is_table(judge, logs, value), table_flips(judge, logs, table), least_table(judge, logs), is_knot(judge, value, *, most),
 shrunk_knot(judge, logs, *, most)"""
+STAGE_14 = """flips_left(judge, closed, late, answer), possible(judge, closed, late), turning(judge, closed, late, answer),
+settled_logs(judge, answer), closing_paper(judge, closed, late, answer),
+is_closing_paper(judge, closed, late, answer, value)"""
+MONITOR = """(judge, *, first=None), flips_left(self), is_settled(self), tell(self, time, letter, *, position=None),
+tell_all(self, events), close(self, time), turning(self), back(self, many=1), again(self, many=1), branch(self),
+trial(self), during(self, call), watch(self, name, call), unwatch(self, name), rings(self)"""
+STAGE_16 = """format_log(log), format_history(logs), format_machine(machine), format_judge(judge), format_chains(letters, chains),
+format_ladder(ladder), format_rule(letters, rule), parse_log(letters, text), parse_history(letters, text),
+parse_machine(text), parse_judge(text), parse_chains(letters, text), parse_ladder(letters, text), parse_rule(letters, text)"""
+SHELL = """(), run(self, line), run_all(self, lines), monitor(self, name)"""
 NO_WORDS = ("type", "typing", "enum", "eval", "exec", "open", "input", "elements", "law", "register", "mro")
 
 
@@ -91,16 +103,18 @@ class InterfaceTest(unittest.TestCase):
         self.check(ladders, STAGE_11)
         self.check(rules, STAGE_12)
         self.check(answerers, STAGE_13)
+        self.check(closing, STAGE_14)
+        self.check(formats, STAGE_16)
 
     def test_constants(self):
         self.assertEqual([logs.MAX_EVENTS, machines.MAX_STATES, chains.MAX_ATOMS, chains.MAX_CHAINS], [200, 200, 400, 100])
         self.assertEqual([judges.MAX_STATES, judges.MAX_VERDICTS, histories.MAX_HISTORY, towers.MAX_ROUNDS], [40, 5, 200, 200])
         self.assertEqual([ladders.MAX_RUNGS, rules.MAX_PATTERNS, rules.MAX_DEPTH, rules.MAX_STANDS], [200, 40, 20, 5000])
-        self.assertEqual([answerers.MAX_LOGS, answerers.MAX_FILLINGS], [12, 1000])
+        self.assertEqual([answerers.MAX_LOGS, answerers.MAX_FILLINGS, monitors.MAX_TIME], [12, 1000, 10 ** 9])
 
     def test_generators(self):
         for call in (logs.growths, logs.shrinkings, logs.Growth.steps, patterns.patterns, logsets.Logs.listed, towers.rounds,
-                     swings.walk, answerers.fillings):
+                     swings.walk, answerers.fillings, monitors.Monitor.rings, shell.Shell.run_all):
             self.assertTrue(inspect.isgeneratorfunction(call))
 
     def test_growth(self):
@@ -138,6 +152,15 @@ class InterfaceTest(unittest.TestCase):
 
     def test_ladder(self):
         self.check_class(ladders.Ladder, LADDER, ("listing",), "letters first_answer other_answer rungs", "call len eq str")
+
+    def test_monitor(self):
+        self.check_class(monitors.Monitor, MONITOR, (), "judge answer flips events log closed late closed_to groups",
+                         "call len contains getitem iter eq str")
+        with self.assertRaises(TypeError):
+            list(monitors.Monitor((("a",), ((0,),), ("no",))))
+
+    def test_shell(self):
+        self.check_class(shell.Shell, SHELL, (), "", "len contains")
 
 
 class FilesTest(unittest.TestCase):
@@ -193,7 +216,8 @@ class FilesTest(unittest.TestCase):
         for name, tree in trees():
             for node in ast.walk(tree):
                 if isinstance(node, ast.ExceptHandler):
-                    self.assertIn(node.type.id, vars(errors), name)
+                    for one in node.type.elts if isinstance(node.type, ast.Tuple) else [node.type]:
+                        self.assertIn(one.id, vars(errors), name)
 
     def test_names_of_generators_are_used_once(self):
         makers, others = [], []

@@ -6,16 +6,21 @@ import plain
 from plain import AB, EVEN, LAST, ONCE, PLAIN
 from seldomflip.errors import (
     InvalidChain, InvalidHistory, InvalidJudge, InvalidLadder, InvalidLetters, InvalidLog, InvalidMachine, InvalidNumber,
-    InvalidOperation, InvalidRule, UnknownName)
+    InvalidOperation, InvalidRule, ParseError, UnknownName)
 from seldomflip.judges import histories, judges
 from seldomflip.judges import plain as answerers
+from seldomflip.late import closing, monitors
 from seldomflip.rules import rules
 from seldomflip.sets import chains, closures, machines
 from seldomflip.sets.logsets import Logs
+from seldomflip.text import formats, shell
 from seldomflip.towers import ladders, swings, towers
 from test_plain_answers import NO_TUPLES as NO_LOG_TUPLES
 from test_plain_answers import PAIRS
+from test_formats import NO_TEXTS
 from test_ladders import NO_LADDERS, NO_RUNGS
+from test_monitors import NO_LETTERS_HERE, NO_TIMES
+from test_shell import NO_COMMANDS
 from test_rules import NO_RULES, occurs
 
 NO_SETS = plain.OTHERS + plain.NUMBERS + ((), ("a",), EVEN, ONCE, plain.deep((), 9))
@@ -41,6 +46,7 @@ CHAIN = (InvalidChain, None, NO_CHAIN)
 CHAINS = (InvalidChain, None, NO_TUPLES + tuple(((), value) for value in NO_CHAIN + ((("maybe", "c"),),)))
 JUDGE = (InvalidJudge, None, plain.NO_JUDGES)
 VERDICT = (UnknownName, "name", NO_NAMES + (None, "maybe"))
+FIRST_VERDICT = (UnknownName, "name", NO_NAMES + ("maybe",))
 VERDICT_OR_FREE = (UnknownName, "name", NO_NAMES + ("maybe",))
 FIRST = (UnknownName, "name", NO_NAMES + (None,))
 FIRST_OR_NONE = (UnknownName, "name", NO_NAMES)
@@ -61,6 +67,13 @@ LADDER = (InvalidLadder, None, NO_LADDERS)
 UP_TO_60 = (InvalidNumber, "value", plain.NO_NUMBERS + plain.SETS + (61, -1, 10 ** 59, -(10 ** 59)))
 FEW_LOGS = (InvalidLog, None, NO_LOG_TUPLES)
 TABLE = (InvalidOperation, None, plain.OTHERS + plain.NUMBERS + plain.SETS + ((), {(): "no"}, {("a",): "no"}))
+
+MOMENT = ((None, ONCE, JUDGE), (None, ("b",), LOG), (None, ("a",), LOG))
+TIME = (InvalidNumber, "value", NO_TIMES)
+LETTER = (UnknownName, "name", NO_LETTERS_HERE)
+TEXT = (ParseError, None, NO_TEXTS[:-16] + ("", " ", "~" * 300, "a..b", "()", "a.B"))
+MONITOR = monitors.Monitor(ONCE)
+MONITOR.tell_all(((1, "b"), (1, "b")))
 
 AS = Logs.sized(AB, least=1)
 DOWN = Logs.sized(AB, most=1)
@@ -144,6 +157,8 @@ CALLS = (
         rules.first_unlike, rules.implies)]
     + [(call, (None, ONCE, JUDGE), (None, ladders.least_ladder(ONCE, "no", "yes"), LADDER)) for call in (
         ladders.is_least, ladders.first_wrong)]
+    + [(call,) + MOMENT + ((None, "yes", VERDICT),) for call in (
+        closing.flips_left, closing.turning, closing.closing_paper)]
     + [(call_first(swings.walk), (None, LAST, JUDGE), (None, Logs.everything(AB), SWING), ("start", ("b",), LOG)),
        (ladders.climb, (None, ONCE, JUDGE), (None, ladders.least_ladder(ONCE, "no", "yes"), LADDER), (None, ("a",), LOG)),
        (ladders.least_ladder, (None, ONCE, JUDGE), (None, "no", NAME), (None, "yes", NAME)),
@@ -155,6 +170,24 @@ CALLS = (
        (answerers.table_flips, (None, ONCE, JUDGE), (None, PAIRS[:2], FEW_LOGS), (None, {(): "no", ("a",): "yes"}, TABLE)),
        (answerers.least_table, (None, ONCE, JUDGE), (None, PAIRS[:3], FEW_LOGS)),
        (answerers.is_knot, (None, ONCE, JUDGE), (None, PAIRS[:2], None), ("most", 3, UP_TO_60)),
+       (closing.possible,) + MOMENT, (closing.settled_logs, (None, ONCE, JUDGE), (None, "no", VERDICT)),
+       (closing.is_closing_paper,) + MOMENT + ((None, "yes", VERDICT), (None, (), None)),
+       (lambda judge, *, first: monitors.Monitor(judge, first=first), (None, ONCE, JUDGE), ("first", "no", FIRST_VERDICT)),
+       (lambda *told, **named: MONITOR.branch().tell(*told, **named), (None, 1, TIME), (None, "a", LETTER),
+        ("position", 2, (InvalidNumber, "value", plain.NO_NUMBERS[1:] + plain.SETS + (3, -1, 10 ** 59)))),
+       (MONITOR, (None, 1, TIME), (None, "a", LETTER)), (lambda time: MONITOR.branch().close(time), (None, 1, TIME)),
+       (lambda time: MONITOR[time], (None, 1, TIME)), (shell.Shell().run, (None, "names", (ParseError, None, NO_COMMANDS))),
+       (formats.format_log, (None, ("x",), ANY_LOG)), (formats.parse_log, (None, AB, LETTERS), (None, "a", TEXT)),
+       (formats.format_history, (None, (("x",),), (InvalidLog, None, tuple(((), log) for log in ANY_LOG[2])))),
+       (formats.parse_history, (None, AB, LETTERS), (None, "a < b", TEXT)),
+       (formats.format_machine, (None, EVEN, MACHINE)), (formats.parse_machine, (None, "letters a\n0: 0 +", TEXT)),
+       (formats.format_judge, (None, ONCE, JUDGE)), (formats.parse_judge, (None, "letters a\n0: 0 no", TEXT)),
+       (formats.format_chains, (None, AB, LETTERS), (None, (LONG, ()), CHAINS)),
+       (formats.parse_chains, (None, AB, LETTERS), (None, "a? [a b]", TEXT)),
+       (formats.format_ladder, (None, ladders.least_ladder(ONCE, "no", "yes"), LADDER)),
+       (formats.parse_ladder, (None, AB, LETTERS), (None, "ladder no yes", TEXT)),
+       (formats.format_rule, (None, AB, LETTERS), (None, occurs("ab"), RULE)),
+       (formats.parse_rule, (None, AB, LETTERS), (None, "a & b", TEXT)),
        (answerers.shrunk_knot, (None, ONCE, JUDGE), (None, ((), ("a",), ("a", "a")), FEW_LOGS), ("most", 1, UP_TO_60))])
 
 

@@ -50,8 +50,23 @@ def read_rule(letters, text, levels):
     return ("occurs", read_log(letters, text))
 
 
+def is_enclosed(text):
+    """Whether the text begins with a parenthesis that the last character of the text closes."""
+    if text[:1] != "(":
+        return False
+    deep = 0
+    for at, character in enumerate(text):
+        if character == "(":
+            deep += 1
+        if character == ")":
+            deep -= 1
+        if deep == 0:
+            return at == len(text) - 1
+    return False
+
+
 def read_part(letters, text, levels):
     """The same for a text that stands in another one."""
-    if text[:1] == "(" and text[-1:] == ")":
+    if is_enclosed(text):
         return read_rule(letters, text[1:-1], levels)
     return read_rule(letters, text, levels)
