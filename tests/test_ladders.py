@@ -134,6 +134,9 @@ class LadderTest(unittest.TestCase):
         self.assertEqual(len(Ladder.listing(AB, "no", "yes", ((("a", "b") * 99 + ("a",),),)).rungs[0]), 200)
         wide = ((("a", "b") * 100,),)
         self.assertEqual(plain.refused(self, TooMany, Ladder.listing, AB, "no", "yes", wide).limit, 200)
+        # what is no log comes ahead of what is no rung
+        plain.refused(self, InvalidLog, Ladder.listing, AB, "no", "yes", ((), (("c",),)))
+        plain.refused(self, InvalidLog, Ladder.listing, AB, "no", "yes", ((("a", "a"),), (("a",), ("c",))))
         # what is no rung comes ahead of the size
         plain.refused(self, InvalidLadder, Ladder.listing, AB, "no", "yes", wide + ((("a",),),))
         self.assertEqual(len(Ladder.listing(("a",), "no", "yes", lists[:39]).as_judge()[1]), 40)
@@ -233,6 +236,13 @@ class LeastLadderTest(unittest.TestCase):
         plain.refused(self, InvalidOperation, climb, ONCE, steps.exchanged(), ("a",))
         plain.refused(self, InvalidOperation, climb, ONCE, Ladder(AB, "no", "yes", steps.rungs[:1]), ("a",))
         plain.refused(self, InvalidOperation, climb, LAST, Ladder(AB, "x", "y", ()), ("a",))
+        # the same with other letters
+        others = tuple(Logs((("a", "c"),) + rung.machine[1:]) for rung in steps.rungs)
+        for call in (is_least, first_wrong, lambda *told: climb(*told, ("a",))):
+            plain.refused(self, InvalidOperation, call, ONCE, Ladder(("a", "c"), "no", "yes", others))
+        # the rung sets of two of three verdicts are no ladder of the judge
+        rungs = plain_rungs(THREE, "p", "q")
+        plain.refused(self, InvalidOperation, climb, THREE, Ladder(THREE[0], "p", "q", rungs), ("a",))
 
     def test_unlimited(self):
         for judge in SMALL:

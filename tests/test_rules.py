@@ -294,6 +294,13 @@ class NormalTest(unittest.TestCase):
         eleven = Logs((AB, tuple((min(at + 1, 11), at) for at in range(12)), (False, True) * 6))
         self.assertEqual(plain.refused(self, TooMany, rule_for, eleven).limit, 20)
         self.assertEqual(plain.refused(self, TooMany, rule_for, ~eleven).limit, 20)
+        # the last test is an or, which is two deep
+        last = ("or", occurs("a" * 10), occurs("b" + "a" * 9))
+        for at in range(9, 1, -1):
+            last = ("and", occurs("a" * at), ("not", last))
+        rule = ("and", occurs("a"), ("not", last))
+        self.assertEqual((plain_depth(rule), normal(AB, rule)), (20, rule))
+        self.assertEqual(plain.refused(self, TooMany, normal, AB, ("or", ("not", occurs("a")), last)).limit, 20)
         # the patterns come ahead of the depth
         high = logs_with(chain_judge(40), "q")
         self.assertEqual(plain.refused(self, TooMany, rule_for, high).limit, 20)

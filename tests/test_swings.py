@@ -271,6 +271,13 @@ class NumberPaperTest(unittest.TestCase):
             self.assertFalse(is_number_paper(judge, ("number", towers, covers[1:])))
             self.assertFalse(is_number_paper(judge, ("number", towers, ())))
 
+    def test_towers_of_other_verdicts(self):
+        paper = number_paper(THREE)
+        towers = {"p": (("a",),), "q": (("b",),), "r": (("c",),)}
+        self.assertTrue(is_number_paper(THREE, ("number", towers, paper[2])))
+        for one, other in (("p", "q"), ("q", "r")):
+            self.assertFalse(is_number_paper(THREE, ("number", {**towers, one: towers[other], other: towers[one]}, paper[2])))
+
     def test_other_towers_and_covers(self):
         towers = {"no": (("b",), ("a", "b"), ("b", "a", "a", "b")), "yes": (("b", "a"), ("a", "b", "a"))}
         covers = tuple(dict(step) for step in rounds(ONCE))
@@ -406,6 +413,15 @@ class RivalTest(unittest.TestCase):
             self.assertEqual(self.state(rival), states[len(rival)])
         rival.next("x")
         self.assertEqual(self.state(rival), states[1])
+        limited = Rival(ONCE)
+        states = [self.state(limited)]
+        for answer in ("no", "yes"):
+            limited.next(answer)
+            states.append(self.state(limited))
+        self.assertEqual([state[2] for state in states], [2, 1, 0])
+        for many in (1, 0):
+            self.assertEqual(limited.back(), many)
+            self.assertEqual(self.state(limited), states[many])
         plain.refused(self, NothingToUndo, rival.back, 2)
         self.assertEqual(rival.back(), 0)
         self.assertEqual(plain.refused(self, NothingToUndo, rival.back).many, 1)

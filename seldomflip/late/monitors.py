@@ -14,7 +14,7 @@ from seldomflip.towers.towers import rounds_of
 MAX_TIME = 1000000000
 
 
-def first_answer(judge, first):
+def begin_answer(judge, first):
     """The answer of a monitor without events."""
     verdicts = verdicts_in(judge)
     if verdicts == ():
@@ -67,7 +67,7 @@ class Monitor:
             check_verdict(judge, first)
         self._judge = judge
         # the states behind the groups, those that can be made again, and both in front of the last call
-        self._past = (((), 0, first_answer(judge, first), 0),)
+        self._past = (((), 0, begin_answer(judge, first), 0),)
         self._ahead = ()
         self._before = None
         # never changed, but replaced

@@ -172,7 +172,8 @@ def format_ladder(ladder):
     lines = [f"ladder {ladder.first_answer} {ladder.other_answer}"]
     for at, rung in enumerate(ladder.rungs):
         answer = ladder.first_answer if at & 1 else ladder.other_answer
-        logs = " or ".join([log_text(log) for log in minimal(rung).listed(longest=MAX_EVENTS)])
+        lowest = minimal(rung)
+        logs = " or ".join([log_text(log) for log in lowest.listed(longest=MAX_EVENTS)])
         lines.append(f"{answer} if {logs}")
     return "\n".join(lines)
 

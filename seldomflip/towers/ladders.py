@@ -283,6 +283,7 @@ def climb(judge, ladder, log):
     check_ladder(ladder)
     check_log_over(judge[0], log)
     check_ladder_of(judge, ladder)
+    check_answers(judge, ladder.first_answer, ladder.other_answer)
     if not is_least_of(judge, ladder):
         raise InvalidOperation("this is not the least ladder")
     tables = [all_logs_table(len(judge[0]))] + [rung.machine[1:] for rung in ladder.rungs]
