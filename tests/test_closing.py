@@ -12,7 +12,7 @@ from seldomflip.late.closing import (
 from seldomflip.sets.closures import below, below_of, first_over
 from seldomflip.sets.logsets import Logs
 from seldomflip.towers.swings import greatest_swing, is_swing, number
-from seldomflip.towers.towers import heights, is_tower, reach
+from seldomflip.towers.towers import heights, is_tower, reach, rounds
 from test_swings import others_of
 from test_towers import WIDE, WIDER, chain_judge
 
@@ -238,6 +238,14 @@ class PaperTest(unittest.TestCase):
         self.assertFalse(is_closing_paper(ONCE, ("a",), (), "yes", ("flips", (("b",),), covers)))
         self.assertFalse(is_closing_paper(ONCE, ("a",), ("b", "b"), "yes", ("flips", (("b", "a"),), covers)))
         self.assertTrue(is_closing_paper(ONCE, ("a",), ("b", "b"), "yes", ("flips", (("b",) * 300 + ("a",),), covers)))
+        # only the first log of the tower counts
+        _, tower, covers = closing_paper(ONCE, (), ("b",), "no")
+        self.assertEqual((len(tower), len(covers)), (2, 3))
+        for other, wanted in (((("a", "b"), ("a", "b", "a")), True), ((("a",), ("b", "a", "a")), False)):
+            self.assertIs(is_closing_paper(ONCE, (), ("b",), "no", ("flips", other, covers)), wanted)
+        steps = tuple(rounds(ONCE))
+        self.assertTrue(is_closing_paper(ONCE, (), ("a",), "yes", ("flips", (("a", "a"),), steps[:2])))
+        self.assertFalse(is_closing_paper(ONCE, (), ("a",), "yes", ("flips", (("a",), ("a", "a")), steps[:3])))
         # swings that are less than the greatest one
         judge = (("a", "b", "d"), ((1, 2, 0), (1, 2, 1), (1, 2, 2)), (None, "x", "y"))
         less = Logs((judge[0], ((0, 0, 1), (1, 1, 1)), (True, False)))

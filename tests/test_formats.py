@@ -134,6 +134,9 @@ class TextTest(unittest.TestCase):
         self.assertEqual(format_chains(AB, ((),)), "-")
         chain = (("maybe", "a"), ("any", ("a", "b")), ("maybe", "b"))
         self.assertEqual(format_chains(AB, (chain, (), chain[1:])), "a? [a b] b? | - | [a b] b?")
+        words = ((("maybe", "cd"), ("any", ("a", "cd"))), (("maybe", "a"),))
+        self.check(words, lambda value: format_chains(("a", "cd"), value), lambda text: parse_chains(("a", "cd"), text))
+        self.assertEqual(format_chains(("a", "cd"), words), "cd? [a cd] | a?")
         most = (("maybe", "a"),) * 400
         self.assertEqual(parse_chains(AB, format_chains(AB, (most,))), (most,))
         for text in ("a? " * 400 + "a?", "c?", "[a c]", "[b a]", "[]", "[a", "a]", "[a b", "[ a]", "[a ]", "a? |b?", "a?b?", "a", "a??", "[a]?",

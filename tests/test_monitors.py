@@ -9,9 +9,10 @@ from seldomflip.base.ways import is_below
 from seldomflip.errors import (
     InvalidEdit, InvalidJudge, InvalidNumber, InvalidOperation, NothingToUndo, TooLate, TooMany, UnknownName)
 from seldomflip.judges.histories import Keeper
-from seldomflip.judges.judges import verdict_of, verdicts_of
+from seldomflip.judges.judges import make_judge_by, verdict_of, verdicts_of
 from seldomflip.late.closing import flips_left, turning
 from seldomflip.late.monitors import MAX_TIME, Monitor
+from seldomflip.sets.logsets import Logs
 from seldomflip.text.formats import format_log
 from seldomflip.towers.swings import best_firsts, number
 from test_towers import WIDE, WIDER, chain_judge
@@ -87,6 +88,10 @@ class MonitorTest(unittest.TestCase):
                 self.assertEqual(Monitor(judge, first=first).answer, begin or first)
         self.assertEqual([Monitor(ONCE).answer, Monitor(ONCE, first="yes").answer, Monitor(LAST).answer, Monitor(THREE).answer],
                          ["no", "no", "x", "p"])
+        # the best first answer is neither the least verdict nor the one of the first log that has one
+        other = make_judge_by(AB, {"p": Logs.listing(AB, ("b",)), "q": Logs.listing(AB, ("a", "a"), ("a",) * 4), "r": Logs.listing(AB, ("a",) * 3)})
+        self.assertEqual((Monitor(other).answer, Monitor(other).flips_left()), ("q", 2))
+        self.assertEqual((MAX_TIME, Monitor(ONCE).tell(10 ** 9, "a")), (10 ** 9, "yes"))
         self.assertEqual(state_of(Monitor(LAST, first="y")), (LAST, "y", 0, (), (), (), (), 0, 0, 0, "-|-: y, 0 flips", []))
 
     def test_against_keepers(self):
