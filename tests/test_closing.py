@@ -282,7 +282,11 @@ class WrongTest(unittest.TestCase):
                 self.assertEqual(plain.refused(self, UnknownName, call, ONCE, (), ("a",), name).name, name)
             plain.refused(self, UnknownName, is_closing_paper, ONCE, (), (), name, None)
             self.assertEqual(plain.refused(self, UnknownName, settled_logs, ONCE, name).name, name)
+        # a verdict that no log has, and one that no log behind the closed one has
+        never = (AB, ((0, 0), (1, 1)), ("no", "yes"))
         for call in CALLS:
+            plain.refused(self, UnknownName, call, never, (), (), "yes")
+            call(THREE, ("a",), ("b",), "q")
             plain.refused(self, InvalidOperation, call, ONCE, (), ("a",), "no")
             plain.refused(self, InvalidOperation, call, ONCE, ("a",), ("a",), "yes")
         plain.refused(self, InvalidOperation, is_closing_paper, ONCE, (), ("a",), "no", None)

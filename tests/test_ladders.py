@@ -12,9 +12,9 @@ from seldomflip.judges.judges import is_total, least_judge, logs_with, make_judg
 from seldomflip.sets.closures import above, above_of, minimal
 from seldomflip.sets.logsets import Logs
 from seldomflip.towers.ladders import Ladder, climb, first_wrong, is_least, least_ladder
-from seldomflip.towers.swings import greatest_swing, number
+from seldomflip.towers.swings import greatest_swing, is_swing, number
 from seldomflip.towers.towers import height, is_tower
-from test_towers import WIDE, WIDER, chain_judge
+from test_towers import WIDE, WIDER, chain_judge, with_swing
 
 SMALL = plain.some_machines(111, 70, "ab", 4, (None, "p", "q")) + plain.some_machines(112, 30, "a", 5, (None, "p", "q")) + (
     plain.some_machines(113, 20, "abc", 4, (None, "p", "q"))) + [FREE]
@@ -255,6 +255,9 @@ class LeastLadderTest(unittest.TestCase):
         # a round counts, too, and it comes ahead of Unlimited
         names = verdicts_of(WIDER)
         self.assertEqual(plain.refused(self, TooMany, least_ladder, WIDER, *names).limit, 200)
+        endless = with_swing(WIDER)
+        self.assertTrue(is_swing(endless, Logs((endless[0], ((1, 1, 2, 1), (1, 1, 2, 2), (2, 2, 2, 2)), (True, True, False)))))
+        self.assertEqual(plain.refused(self, TooMany, least_ladder, endless, *names).limit, 200)
         with mock.patch("seldomflip.towers.climbing.MAX_STATES", 3):
             self.assertEqual(plain.refused(self, TooMany, least_ladder, chain_judge(4), "p", "q").limit, 3)
             self.assertEqual(len(least_ladder(chain_judge(3), "p", "q")), 2)

@@ -3,6 +3,7 @@
 import itertools
 import random
 import unittest
+from unittest import mock
 
 import plain
 from plain import AB, FREE, LAST, ONCE, THREE, TURNS, label
@@ -107,6 +108,13 @@ class PlainTest(unittest.TestCase):
                     self.assertEqual(worst_flips(answerer), number(judge))
                     self.assertTrue(is_plain(judge, answerer))
         self.assertEqual(number(THREE), 1)
+
+    def test_too_many_comes_ahead_of_unlimited(self):
+        judge = (("a", "b", "c"), ((0, 1, 2), (0, 1, 2), (2, 2, 2)), ("x", "y", "x"))
+        plain.refused(self, Unlimited, worst_history, judge)
+        with mock.patch("seldomflip.towers.rounds.MAX_STATES", 1):
+            for call in (worst_history, worst_flips):
+                self.assertEqual(plain.refused(self, TooMany, call, judge).limit, 1)
 
     def test_refuses(self):
         for judge in plain.NO_JUDGES[::5]:

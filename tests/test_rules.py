@@ -174,11 +174,14 @@ class SetsTest(unittest.TestCase):
         self.assertEqual(rule_logs(ABC, three), Logs.nothing(ABC))
         self.assertEqual(first_unlike(ABC, three, three), None)
         # 25 * 25 * 8 stands are allowed, one part more is not
-        for calls in (RULE_CALLS[1:],):
-            for call in calls:
-                call(ABC, three)
-                more = three + (occurs("c" * 8),)
-                self.assertEqual(plain.refused(self, TooMany, call, ABC, more).limit, 5000)
+        for call in RULE_CALLS[1:]:
+            call(ABC, three)
+            more = three + (occurs("c" * 8),)
+            self.assertEqual(plain.refused(self, TooMany, call, ABC, more).limit, 5000)
+        # ahead of the sizes of what they tell
+        large = ("and",) + tuple(occurs(letter * 20) for letter in "abc")
+        for call in RULE_CALLS[1:]:
+            self.assertEqual(plain.refused(self, TooMany, call, ABC, large).limit, 5000)
         # for two rules together
         one = ("and", occurs("a" * 70), ("not", occurs("a" * 70)))
         other = ("and", occurs("b" * 70), ("not", occurs("b" * 70)))

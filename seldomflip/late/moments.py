@@ -1,17 +1,11 @@
 """What a monitor is behind a group: a tuple of its events, what it is closed to, its answer and its flips."""
 
-from seldomflip.base.checks import check_number, is_whole
+from seldomflip.base.checks import check_number
 from seldomflip.base.logs import check_events
 from seldomflip.base.ways import first_way
-from seldomflip.errors import InvalidEdit, InvalidNumber, TooLate, UnknownName
+from seldomflip.errors import InvalidEdit, TooLate, UnknownName
 from seldomflip.late.closing import left_at, turning_of
 from seldomflip.sets.machines import label_of
-
-
-def check_time(value, most):
-    """Refuses what is no time."""
-    if not is_whole(value) or not 0 <= value <= most:
-        raise InvalidNumber(value)
 
 
 def check_pairs(value):
@@ -52,7 +46,7 @@ def with_event(events, time, letter, position):
 def checked_events(judge, most_time, events, closed_to, told):
     """The events with one more, told by a tuple of its time, its letter and its position."""
     time, letter, position = told
-    check_time(time, most_time)
+    check_number(time, 0, most_time)
     if letter not in judge[0]:
         raise UnknownName(letter)
     if position is not None:

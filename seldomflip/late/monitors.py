@@ -1,11 +1,10 @@
 """Monitors, which take events with their times in any order and tell their answers."""
 
-from seldomflip.base.checks import check_many, is_name, is_whole
+from seldomflip.base.checks import check_many, check_number, is_name, is_whole
 from seldomflip.errors import InvalidNumber, InvalidOperation, UnknownName
 from seldomflip.judges.judges import check_judge, check_verdict, verdicts_in
 from seldomflip.late.moments import (
-    check_pairs, check_time, checked_events, closed_part, late_part, left_in, letters_at, log_of_events, state_with,
-    turning_in)
+    check_pairs, checked_events, closed_part, late_part, left_in, letters_at, log_of_events, state_with, turning_in)
 from seldomflip.sets.machines import label_of
 from seldomflip.text.words import log_text
 from seldomflip.towers.swings import firsts_in
@@ -159,7 +158,7 @@ class Monitor:
     def close(self, time):
         """Closes the monitor to a time, and returns the flips left."""
         events, closed_to, answer, flips = self._past[-1]
-        check_time(time, MAX_TIME)
+        check_number(time, 0, MAX_TIME)
         if time < closed_to:
             raise InvalidNumber(time)
         state = (events, time, answer, flips)
@@ -246,7 +245,7 @@ class Monitor:
         return isinstance(value, tuple) and len(value) == 2 and is_whole(value[0]) and value in self._past[-1][0]
 
     def __getitem__(self, at):
-        check_time(at, MAX_TIME)
+        check_number(at, 0, MAX_TIME)
         return letters_at(self._past[-1][0], at)
 
     def __iter__(self):

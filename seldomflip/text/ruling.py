@@ -21,16 +21,24 @@ def rule_text(rule):
     return " | ".join(parts) if rule[0] == "or" else " & ".join(parts)
 
 
-def pieces_of(text, sign):
-    """The pieces of the text between the signs that stand outside of all parentheses."""
+def depths_of(text):
+    """How many parentheses are open behind each character."""
     found = []
-    begin = 0
     deep = 0
-    for at, character in enumerate(text):
+    for character in text:
         if character == "(":
             deep += 1
         if character == ")":
             deep -= 1
+        found.append(deep)
+    return found
+
+
+def pieces_of(text, sign):
+    """The pieces of the text between the signs that stand outside of all parentheses."""
+    found = []
+    begin = 0
+    for at, deep in enumerate(depths_of(text)):
         if deep == 0 and text[at:at + len(sign)] == sign:
             found.append(text[begin:at])
             begin = at + len(sign)
@@ -52,17 +60,8 @@ def read_rule(letters, text, levels):
 
 def is_enclosed(text):
     """Whether the text begins with a parenthesis that the last character of the text closes."""
-    if text[:1] != "(":
-        return False
-    deep = 0
-    for at, character in enumerate(text):
-        if character == "(":
-            deep += 1
-        if character == ")":
-            deep -= 1
-        if deep == 0:
-            return at == len(text) - 1
-    return False
+    depths = depths_of(text)
+    return text[:1] == "(" and 0 in depths and depths.index(0) == len(text) - 1
 
 
 def read_part(letters, text, levels):
