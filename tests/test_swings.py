@@ -263,9 +263,9 @@ class NumberPaperTest(unittest.TestCase):
             self.assertFalse(is_number_paper(judge, ("number", {**less, "other": towers[verdict]}, covers)))
             for tower in ((), towers[verdict][1:], towers[verdict][:-1], towers[verdict] + towers[verdict][-1:], None):
                 self.assertFalse(is_number_paper(judge, ("number", {**towers, verdict: tower}, covers)))
-            wide = {**covers[-1], verdict: Logs.everything(judge[0])}
-            self.assertFalse(is_number_paper(judge, ("number", towers, covers[:-1] + (wide,)))
-                             and len(towers[verdict]) == len(covers) - 1)
+            if len(towers[verdict]) == len(covers) - 1:
+                wide = {**covers[-1], verdict: Logs.everything(judge[0])}
+                self.assertFalse(is_number_paper(judge, ("number", towers, covers[:-1] + (wide,))))
         if towers:
             self.assertFalse(is_number_paper(judge, ("number", towers, covers[:-1])))
             self.assertFalse(is_number_paper(judge, ("number", towers, covers[1:])))
