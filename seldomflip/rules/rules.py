@@ -107,7 +107,7 @@ def minimal_logs(rung):
     return in_order([log_of(letters, path) for path in paths])
 
 
-def test_for(logs):
+def rung_test(logs):
     """The test of a rung with these minimal logs, and how deep it is nested."""
     if len(logs) == 1:
         return ("occurs", logs[0]), 1
@@ -118,9 +118,9 @@ def except_form(rungs):
     """The except form from the first one of some rungs on, and how deep it is nested."""
     logs = [minimal_logs(rung) for rung in rungs]
     check_size(sum([len(some) for some in logs]), MAX_PATTERNS)
-    form, levels = test_for(logs[-1])
+    form, levels = rung_test(logs[-1])
     for some in logs[:-1][::-1]:
-        test, deep = test_for(some)
+        test, deep = rung_test(some)
         form = ("and", test, ("not", form))
         levels = 1 + max(deep, levels + 1)
     return form, levels

@@ -53,7 +53,9 @@ def read_command(line):
     """The first word of a command, and what follows it, as a tuple."""
     if not isinstance(line, str) or "\n" in line:
         raise ParseError("a command is a line")
-    word, *words = line.split(" ")
+    parts = line.split(" ")
+    word = parts[0]
+    words = parts[1:]
     if word in ("judge", "rule"):
         if not words or not is_name(words[0]):
             raise ParseError("a name is needed")

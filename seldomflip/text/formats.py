@@ -82,14 +82,14 @@ def format_judge(judge):
 def read_table(text):
     """The letters, the rows and the words of a text, as far as it has such parts."""
     check_text(text)
-    first, *lines = text.split("\n")
+    lines = text.split("\n")
     rows = []
     words = []
-    for line in lines:
+    for line in lines[1:]:
         parts = line.split(" ")
         rows.append(tuple([read_number(part) for part in parts[1:-1]]))
         words.append(parts[-1])
-    return tuple(first.split(" ")[1:]), tuple(rows), words
+    return tuple(lines[0].split(" ")[1:]), tuple(rows), words
 
 
 def parse_machine(text):

@@ -28,9 +28,9 @@ def read_rung(letters, line, answer):
 
 def read_ladder(letters, text):
     """The ladder with this text."""
-    line, *others = text.split("\n")
-    first, second = read_answers(line)
-    lists = [read_rung(letters, other, first if at & 1 else second) for at, other in enumerate(others)]
+    lines = text.split("\n")
+    first, second = read_answers(lines[0])
+    lists = [read_rung(letters, line, first if at & 1 else second) for at, line in enumerate(lines[1:])]
     try:
         ladder = Ladder.listing(letters, first, second, tuple(lists))
     except (InvalidLadder, TooMany):
