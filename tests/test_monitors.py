@@ -460,11 +460,20 @@ class RingsTest(unittest.TestCase):
         monitor = self.started()
         monitor.tell(5, "b")
         before = full_state(monitor)
-        for value in plain.NO_NAMES + (None,):
+        for value in plain.NO_NAMES + (None, ("a",), ["many"], monitor):
             plain.refused(self, InvalidOperation, monitor.watch, value, len)
-            self.assertEqual(plain.refused(self, UnknownName, monitor.unwatch, value).name, value)
-        self.assertEqual(plain.refused(self, UnknownName, monitor.unwatch, "other").name, "other")
+            plain.refused(self, InvalidOperation, monitor.unwatch, value)
+        for name in ("other", "a", "abcdefgh", "man", "manyy"):
+            self.assertEqual(plain.refused(self, UnknownName, monitor.unwatch, name).name, name)
         self.assertEqual(full_state(monitor), before)
+
+    def test_a_watch_that_is_removed(self):
+        monitor = self.started()
+        monitor.unwatch("many")
+        self.assertEqual(plain.refused(self, UnknownName, monitor.unwatch, "many").name, "many")
+        monitor.watch("many", len)
+        self.assertIsNone(monitor.unwatch("many"))
+        self.assertEqual(plain.refused(self, UnknownName, Monitor(ONCE).unwatch, "many").name, "many")
 
 
 class WrongTest(unittest.TestCase):

@@ -27,6 +27,12 @@ def begin_answer(judge, first):
     return bests[0] if bests != () else verdicts[0]
 
 
+def check_watch_name(name):
+    """Refuses a name under which nothing can be watched."""
+    if not is_name(name):
+        raise InvalidOperation("a name is one to eight letters a to z")
+
+
 def both_logs_text(state):
     """The text of the closed and the late log."""
     return f"{log_text(closed_part(state))}|{log_text(late_part(state))}"
@@ -207,15 +213,15 @@ class Monitor:
 
     def watch(self, name, call):
         """Adds or replaces a function of a monitor that is asked for rings."""
-        if not is_name(name):
-            raise InvalidOperation("a name is one to eight characters a to z")
+        check_watch_name(name)
         watches = dict(self._watches)
         watches[name] = call
         self._watches = watches
 
     def unwatch(self, name):
         """Removes a function."""
-        if not is_name(name) or name not in self._watches:
+        check_watch_name(name)
+        if name not in self._watches:
             raise UnknownName(name)
         self._watches = {one: self._watches[one] for one in self._watches if one != name}
 
