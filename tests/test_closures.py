@@ -20,7 +20,7 @@ from seldomflip.sets.machines import least
 from seldomflip.sets.settling import settled
 from seldomflip.sets.masks import true_mask
 from seldomflip.sets.spreads import Falling, Live, Rising, Under
-from seldomflip.sets.tables import least_table
+from seldomflip.sets.tables import smallest_table
 
 # with three states a log that is above one of two events, and of a set, has at most nine events
 SMALL = plain.some_machines(21, 90, "ab", 3) + plain.some_machines(22, 30, "a", 3)
@@ -419,7 +419,7 @@ class WaysAgreeTest(unittest.TestCase):
         rising = Rising(rows, goods)
         for spread, begin in ((rising, rising.begin_mask()), (live, falling.reach[falling.place[0]] & live.goods)):
             wanted = settled(begin, spread.width, spread.behind, lambda mask: mask & spread.goods != 0, 10 ** 9, None)
-            self.assertEqual(least_table(*wanted, 0, 10 ** 9), wanted)
+            self.assertEqual(smallest_table(*wanted, 0, 10 ** 9), wanted)
             found = settled(spread.filled(begin), spread.width, lambda mask, at: spread.filled(spread.behind(mask, at)),
                             lambda mask: mask & spread.goods != 0, 10 ** 9, None)
             self.assertEqual(found, wanted)
@@ -432,7 +432,7 @@ class WaysAgreeTest(unittest.TestCase):
         for configs in (Minimal(rows, goods), Maximal(rows, goods)):
             first, width = configs.first_config, configs.width
             wanted = settled(first, width, configs.behind, configs.is_good, 10 ** 9, None)
-            self.assertEqual(least_table(*wanted, 0, 10 ** 9), wanted)
+            self.assertEqual(smallest_table(*wanted, 0, 10 ** 9), wanted)
             self.assertEqual(settled(first, width, configs.filled_behind, configs.is_good, 10 ** 9, None), wanted)
 
     def test_small_sets(self):
@@ -459,13 +459,13 @@ class WaysAgreeTest(unittest.TestCase):
             for _ in range(4):
                 rows = tuple(tuple(min(state + source.randint(1, 6), many - 1) for _ in "abc") for state in range(many - 1))
                 goods = tuple(state < many - 1 and source.random() < 0.15 for state in range(many))
-                self.check(*least_table(rows + ((many - 1,) * 3,), goods, 0, many))
+                self.check(*smallest_table(rows + ((many - 1,) * 3,), goods, 0, many))
 
     def test_sets_with_loops(self):
         source = random.Random(29)
         for _ in range(120):
             rows, goods = blocks(source, source.randint(2, 4), source.randint(2, 4))
-            rows, goods = least_table(rows, goods, 0, 200)
+            rows, goods = smallest_table(rows, goods, 0, 200)
             self.check(rows, goods)
             falling = Falling(rows, [0])
             live = Live(falling, true_mask([goods[state] for state in falling.order]))

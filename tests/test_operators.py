@@ -16,22 +16,24 @@ class Code:
     """The functions, methods and classes of the package by their names."""
 
     def __init__(self, texts):
-        self.names, self.methods, self.properties = {}, {}, {}
+        self.names, self.functions, self.properties = {}, {}, {}
         for module, text in texts.items():
             known = self.names.setdefault(module, {})
-            for node in ast.parse(text).body:
+            tree = ast.parse(text)
+            for node in tree.body:
                 if isinstance(node, ast.ImportFrom):
                     for alias in node.names:
                         known[alias.name] = (node.module, alias.name)
                 elif isinstance(node, (ast.FunctionDef, ast.ClassDef)):
                     known[node.name] = (module, node)
-                    self.add_methods(module, node)
+            for node in ast.walk(tree):
+                if isinstance(node, ast.FunctionDef):
+                    self.add(module, node)
 
-    def add_methods(self, module, node):
-        for one in node.body if isinstance(node, ast.ClassDef) else []:
-            if isinstance(one, ast.FunctionDef):
-                is_property = any(isinstance(each, ast.Name) and each.id == "property" for each in one.decorator_list)
-                (self.properties if is_property else self.methods).setdefault(one.name, []).append((module, one))
+    def add(self, module, node):
+        """Adds a function, however deep it is nested, or a method."""
+        is_property = any(isinstance(each, ast.Name) and each.id == "property" for each in node.decorator_list)
+        (self.properties if is_property else self.functions).setdefault(node.name, []).append((module, node))
 
     def named(self, module, name):
         """The functions that a name stands for in a module."""
@@ -44,9 +46,13 @@ class Code:
             return [(found[0], one) for one in found[1].body if isinstance(one, ast.FunctionDef) and one.name == "__init__"]
         return [found]
 
+    def called(self, name):
+        """The functions and methods of this name, whatever module they stand in."""
+        return self.functions.get(name, []) + self.properties.get(name, [])
+
     def reached(self):
         """All that operators and properties call, however far down."""
-        stack = [one for name in ROOTS for one in self.methods.get(f"__{name}__", [])]
+        stack = [one for name in ROOTS for one in self.functions.get(f"__{name}__", [])]
         stack += [one for found in self.properties.values() for one in found]
         found = []
         while stack:
@@ -58,8 +64,10 @@ class Code:
                 for each in ast.walk(node):
                     if isinstance(each, ast.Name) and each not in classes:
                         stack += self.named(module, each.id)
+                    if isinstance(each, ast.Call) and isinstance(each.func, ast.Name):
+                        stack += self.called(each.func.id)
                     if isinstance(each, ast.Attribute):
-                        stack += self.methods.get(each.attr, []) + self.properties.get(each.attr, [])
+                        stack += self.called(each.attr)
         return found
 
 
@@ -120,6 +128,11 @@ def held_calls(code, module, node):
     return found
 
 
+def changed_lines(code):
+    """The modules' lines at which something is changed that was not created there."""
+    return [line for _, node in code.reached() for line in changes(node)]
+
+
 class OperatorsTest(unittest.TestCase):
 
     def package(self):
@@ -139,10 +152,20 @@ class OperatorsTest(unittest.TestCase):
                 "    def __or__(self, other):\n        return helper(other)\n"
                 "def helper(rows):\n    return rows.count(1)\n")
         code = Code({"box": text})
-        self.assertEqual([line for _, node in code.reached() for line in changes(node)], [4])
+        self.assertEqual(changed_lines(code), [4])
         call = "class Box:\n    def __len__(self):\n        return len(self.rows)\n    def __eq__(self, other):\n        return other(1)\n"
         code = Code({"box": call})
         self.assertEqual([line for module, node in code.reached() for line in held_calls(code, module, node)], [5])
+
+    def test_functions_by_their_names(self):
+        # a function that only shares its name with the one that is called counts, in whatever module it stands
+        box = ("def told(rows):\n    return len(rows)\n"
+               "class Box:\n    def __invert__(self):\n        return told(self.rows)\n")
+        other = "def told(rows):\n    return Play(rows).go()\nclass Play:\n    def go(self):\n        self.n = 1\n"
+        nested = "def play(rows):\n    def told(at):\n        rows[at] = 1\n    return told\n"
+        self.assertEqual(changed_lines(Code({"box": box})), [])
+        self.assertEqual(changed_lines(Code({"box": box, "other": other})), [5])
+        self.assertEqual(changed_lines(Code({"box": box, "other": nested})), [3])
 
 
 if __name__ == "__main__":

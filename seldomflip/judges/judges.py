@@ -7,7 +7,7 @@ from seldomflip.sets.logsets import Logs, check_set
 from seldomflip.sets.machines import (
     are_rows, are_same_pairs, check_letters_of, check_log_over, label_of, least_of, parting_of, parts, same_pairs,
     state_of)
-from seldomflip.sets.tables import check_size, least_table, paired, reached
+from seldomflip.sets.tables import check_size, paired, reached, smallest_table
 
 MAX_STATES = 40
 MAX_VERDICTS = 5
@@ -60,7 +60,7 @@ def check_verdict(judge, verdict):
 def judge_from(letters, rows, labels):
     """The least judge of a table whose states are all reached."""
     check_size(len(different_verdicts(labels)), MAX_VERDICTS)
-    found, verdicts = least_table(rows, labels, 0, MAX_STATES)
+    found, verdicts = smallest_table(rows, labels, 0, MAX_STATES)
     return letters, found, verdicts
 
 
@@ -68,7 +68,7 @@ def judge_with(judge, labels):
     """The least judge with other labels at the states of the judge."""
     letters, rows, _ = judge
     check_size(len(verdicts_in((letters, rows, labels))), MAX_VERDICTS)
-    found, verdicts = least_table(rows, labels, 0, MAX_STATES)
+    found, verdicts = smallest_table(rows, labels, 0, MAX_STATES)
     return letters, found, verdicts
 
 
@@ -104,7 +104,7 @@ def make_judge_by(letters, sets):
         _, others, good = sets[name].machine
         pairs, table = paired(rows, others)
         # with more sets there are never fewer states
-        rows, labels = least_table(table, [name if good[two] else labels[one] for one, two in pairs], 0, MAX_STATES)
+        rows, labels = smallest_table(table, [name if good[two] else labels[one] for one, two in pairs], 0, MAX_STATES)
     return letters, rows, labels
 
 
@@ -154,7 +154,7 @@ def behind(judge, log):
     check_judge(judge)
     letters, rows, verdicts = judge
     check_log_over(letters, log)
-    found, labels = least_table(rows, verdicts, state_of(judge, log), MAX_STATES)
+    found, labels = smallest_table(rows, verdicts, state_of(judge, log), MAX_STATES)
     return letters, found, labels
 
 

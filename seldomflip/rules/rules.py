@@ -7,7 +7,7 @@ from seldomflip.judges.judges import MAX_STATES, judge_from
 from seldomflip.rules.stands import patterns_in, rules_table, worth_of
 from seldomflip.sets.logsets import Logs, check_set
 from seldomflip.sets.machines import check_log_over, log_of
-from seldomflip.sets.tables import check_size, first_path, least_table
+from seldomflip.sets.tables import check_size, first_path, smallest_table
 from seldomflip.sets.unions import least_outside
 from seldomflip.towers.ladders import ladder_between
 from seldomflip.towers.swings import number_in
@@ -71,7 +71,7 @@ def table_of_both(letters, rule, other):
 def rule_logs(letters, rule):
     """The set of the logs for which the rule holds."""
     rows, goods = table_of(letters, rule)
-    return Logs((letters,) + least_table(rows, goods, 0, MAX_SIZE))
+    return Logs((letters,) + smallest_table(rows, goods, 0, MAX_SIZE))
 
 
 def answers_of(goods):
@@ -94,7 +94,7 @@ def ladder_from(letters, rows, goods):
 def rule_ladder(letters, rule):
     """The ladder of the rule."""
     rows, goods = table_of(letters, rule)
-    small, ends = least_table(rows, goods, 0, len(rows))
+    small, ends = smallest_table(rows, goods, 0, len(rows))
     return ladder_from(letters, small, ends)
 
 

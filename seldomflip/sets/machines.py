@@ -5,7 +5,7 @@ from seldomflip.base.logs import check_events, is_any_log, is_letters
 from seldomflip.errors import InvalidLog, InvalidMachine, InvalidOperation
 from seldomflip.sets.masks import bits_of, mask_of
 from seldomflip.sets.tables import (
-    check_size, classes_of, first_path, least_table, paired, renumbered, state_after)
+    check_size, classes_of, first_path, paired, renumbered, smallest_table, state_after)
 
 MAX_STATES = 200
 
@@ -89,7 +89,7 @@ def label_of(machine, log):
 def least_of(machine):
     """The least machine, or judge, in which each log has the same label."""
     letters, rows, labels = machine
-    small_rows, small_labels = least_table(rows, labels, 0, len(rows))
+    small_rows, small_labels = smallest_table(rows, labels, 0, len(rows))
     return letters, small_rows, small_labels
 
 
@@ -213,7 +213,7 @@ def merged_of(machine, other, wanted):
     pairs, table = paired(rows, others)
     worth = {(True, True): both, (True, False): first, (False, True): second, (False, False): neither}
     labels = [worth[(good[one], other_good[two])] for one, two in pairs]
-    found, found_labels = least_table(table, labels, 0, MAX_STATES)
+    found, found_labels = smallest_table(table, labels, 0, MAX_STATES)
     return letters, found, found_labels
 
 

@@ -90,7 +90,7 @@ def renumbered(rows, labels, begin):
     return tuple(found), tuple([labels[state] for state in order])
 
 
-def least_table(rows, labels, begin, most):
+def smallest_table(rows, labels, begin, most):
     """The least table in which each log has the same label; more states than the most are refused."""
     near, known = renumbered(rows, labels, begin)
     classes = classes_of(near, known, most)

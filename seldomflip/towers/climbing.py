@@ -3,7 +3,7 @@
 from seldomflip.errors import TooMany
 from seldomflip.sets.machines import MAX_STATES
 from seldomflip.sets.spreads import above_table
-from seldomflip.sets.tables import least_table, paired
+from seldomflip.sets.tables import paired, smallest_table
 
 
 def all_logs_table(width):
@@ -15,7 +15,7 @@ def next_rung(rows, labels, wanted, table, most):
     """Rows and good states of the logs above one in the set that has the wanted label; more states are refused."""
     others, goods = table
     pairs, both = paired(rows, others)
-    small, ends = least_table(both, [labels[one] == wanted and goods[two] for one, two in pairs], 0, len(both))
+    small, ends = smallest_table(both, [labels[one] == wanted and goods[two] for one, two in pairs], 0, len(both))
     return above_table(small, ends, most)
 
 

@@ -8,7 +8,7 @@ from seldomflip.judges.judges import MAX_STATES, check_judge, verdicts_in
 from seldomflip.sets.closures import above_of, is_closed_up
 from seldomflip.sets.logsets import Logs, check_logs_over
 from seldomflip.sets.machines import check_log_over, label_of, least_of, log_of
-from seldomflip.sets.tables import first_path, least_table
+from seldomflip.sets.tables import first_path, smallest_table
 from seldomflip.towers.climbing import all_logs_table, are_rung_tables, rung_tables
 from seldomflip.towers.swings import number_in
 from seldomflip.towers.towers import greatest_of, rounds_of
@@ -138,7 +138,7 @@ class Ladder:
         for state in states:
             many = len([1 for machine, one in zip(machines, state) if machine[2][one]])
             labels.append(self._other if many & 1 else self._first)
-        found, verdicts = least_table(rows, labels, 0, MAX_STATES)
+        found, verdicts = smallest_table(rows, labels, 0, MAX_STATES)
         return self._letters, found, verdicts
 
     def rung(self, log):
